@@ -1,0 +1,1 @@
+"""Rangekeep: a navigation receiver with exact sets of places."""
