@@ -30,10 +30,11 @@ def odd(a, b, k):
 def _parts(a, b, k):
     """Return the sum of the products up to the end of b, and that behind it."""
     wrap = len(a) - k
-    return _products(a[:wrap], b[k:]), _products(a[wrap:], b[:k])
+    return sum_of_products(a[:wrap], b[k:]), sum_of_products(a[wrap:], b[:k])
 
 
-def _products(xs, ys):
+def sum_of_products(xs, ys):
+    """Return the sum of the products of two rows, as far as the shorter one goes."""
     return sum([x * y for x, y in zip(xs, ys)])
 
 

@@ -1,8 +1,10 @@
-"""The examples of the document's interface, as they stand there."""
+"""The examples of the document's interface, as they stand there, and those of README.md."""
 
 import contextlib
 import doctest
 import io
+import pathlib
+import re
 import unittest
 
 from rangekeep.errors import RangekeepError
@@ -30,6 +32,59 @@ EXAMPLES = {
 >>> [starts(stream), samples([stream], [0] * 16)]
 [[1, 9, 15], [0, -2, -2, -2, 2, 2, -2, 2, 2, 2, 2, 2, -2, -2, 2, 0]]
 """,
+    "margin": """
+>>> from rangekeep.codes import maximal_code
+>>> from rangekeep.margin import Settings, loud, margin, quiet, weight, worst
+>>> code = maximal_code((2, 3))
+>>> [weight(code, code, 7, 0), weight(code, code, 7, 1), weight(code, code, 6, 0), worst(code, code, False)]
+[7, 1, 7, 1]
+>>> one = Settings([code], [(10, 10)], 1, False)
+>>> [loud(one, 0), quiet(one, 0), margin(one, 0)]
+[63, 17, 46]
+""",
+    "acquiring": """
+>>> from rangekeep.acquiring import acquired, correlation, hits, tracks
+>>> from rangekeep.codes import maximal_code
+>>> from rangekeep.margin import Settings
+>>> from rangekeep.samples import Stream, samples
+>>> code = maximal_code((2, 3))
+>>> heard = samples([Stream(code, -10, 2, [0, 0, 0], [1, 1, 0])], [1, -1] * 12)
+>>> [correlation(heard, 2, code), correlation(heard, 16, code), hits(heard, code, 63)]
+[-69, 71, [(2, 0), (9, 0), (16, 1)]]
+>>> acquired(Settings([code], [(10, 10)], 1, False), heard)
+[[[(2, 0), (9, 0), (16, 1)]]]
+""",
+    "words": """
+>>> from rangekeep.words import read_word, word_of
+>>> word_of(1024)
+(1, 1, 1, 1, 0, 0, 0, 0, 0, 0, 0, 0, 0, 0, 0, 0)
+>>> read_word((1, 1, 1, 1, 0, 0, 1, 0, 0, 0, 0, 0, 0, 0, 0, 0))
+(1024, 6)
+>>> read_word((1, 1, 1, 0, 0, 0, 1, 0, 0, 0, 0, 0, 0, 0, 0, 0)) is None
+True
+""",
+    "framing": """
+>>> from rangekeep.framing import frames_in, stream_of, stuff, unstuff
+>>> stuff([0, 0, 0, 0, 0, 1])
+[0, 0, 0, 0, 1, 0, 1]
+>>> unstuff([1, 1, 1, 1, 1, 0, 1])
+[1, 1, 1, 1, 1, 1]
+>>> frames_in([1 - bit for bit in [1, 0] + stream_of([[1, 1, 0]])])
+[(2, -1, (1, 1, 0))]
+
+>>> from rangekeep.framing import unstuff
+>>> unstuff([1, 1, 1, 1, 1, 1])
+raises InvalidFrame
+""",
+    "records": """
+>>> from rangekeep.records import cells_of, pages_of, read_record
+>>> cells_of(("clock", 3000, -1, 0))
+[3, 1976, 2, 1, 0]
+>>> read_record([1, 1976, 2])
+('time', 3000)
+>>> pages_of(("time", 7), 2047)
+[[2047, 0, 1, 7, 40]]
+""",
 }
 
 
@@ -45,14 +100,25 @@ def printed(source, names):
 
 
 class ExamplesTest(unittest.TestCase):
-    def test_examples(self):
+    def check(self, text):
+        names = {}
+        examples = doctest.DocTestParser().get_examples(text)
+        self.assertTrue(examples)
+        for example in examples:
+            with self.subTest(source=example.source):
+                self.assertEqual(printed(example.source, names), example.want)
+
+    def test_the_document(self):
         for name, text in EXAMPLES.items():
-            names = {}
-            examples = doctest.DocTestParser().get_examples(text)
-            self.assertTrue(examples)
-            for example in examples:
-                with self.subTest(module=name, source=example.source):
-                    self.assertEqual(printed(example.source, names), example.want)
+            with self.subTest(module=name):
+                self.check(text)
+
+    def test_the_readme(self):
+        readme = pathlib.Path(__file__).resolve().parent.parent / "README.md"
+        blocks = re.findall("```\n(>>>.*?)```", readme.read_text(), re.DOTALL)
+        self.assertEqual(len(blocks), 2)
+        for text in blocks:
+            self.check(text)
 
 
 if __name__ == "__main__":

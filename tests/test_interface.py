@@ -1,0 +1,62 @@
+"""The names, arguments and places of the document's interface."""
+
+import importlib
+import inspect
+import unittest
+
+FUNCTIONS = {
+    "registers": ["step(taps, state)", "sequence(taps, state, count)", "period(taps, state)", "is_maximal(taps)",
+                  "maximal_taps(n)", "complexity(bits)", "connection(bits)"],
+    "codes": ["maximal_code(taps)", "even(a, b, k)", "odd(a, b, k)", "decimated(code, q)", "family(taps)", "bound(n)"],
+    "samples": ["starts(stream)", "value(stream, t)", "samples(streams, noise)"],
+    "margin": ["weight(a, b, length, offset)", "worst(a, b, moving)", "loud(settings, i)", "quiet(settings, i)",
+               "margin(settings, i)"],
+    "acquiring": ["correlation(samples, at, code)", "hits(samples, code, threshold)",
+                  "follow(samples, code, at, threshold)", "tracks(samples, code, threshold)",
+                  "acquired(settings, samples)"],
+    "words": ["word_of(cell)", "read_word(bits)", "words_of(cells)", "read_words(bits)"],
+    "framing": ["stuff(bits)", "unstuff(bits)", "stream_of(contents)", "frames_in(bits)"],
+    "records": ["is_record(value)", "cells_of(record)", "read_record(cells)", "pages_of(record, number)",
+                "contents_of(records, number)", "read_page(content)"],
+}
+CLASSES = {
+    "errors": ["RangekeepError(place)", "InvalidCode(place)", "InvalidBits(place)", "InvalidFrame(place)",
+               "InvalidOrbit(place)", "TooMany(place)", "InvalidScript(place)"],
+    "samples": ["Stream(code, amplitude, first, steps, bits)"],
+    "margin": ["Settings(codes, amplitudes, noise, moving)"],
+    "framing": ["Framer()"],
+    "records": ["Collector()"],
+}
+METHODS = {
+    ("samples", "Stream"): ["__init__(self, code, amplitude, first, steps, bits)", "__eq__(self, other)"],
+    ("margin", "Settings"): ["__init__(self, codes, amplitudes, noise, moving)", "__eq__(self, other)"],
+    ("framing", "Framer"): ["__init__(self)", "feed(self, bits)"],
+    ("records", "Collector"): ["__init__(self)", "take(self, content)"],
+}
+
+
+class InterfaceTest(unittest.TestCase):
+    def check(self, found, told, module):
+        name = told.partition("(")[0]
+        self.assertEqual(name + str(inspect.signature(found)), told)
+        self.assertEqual(found.__module__, f"rangekeep.{module}")
+
+    def test_functions_and_classes(self):
+        for table in (FUNCTIONS, CLASSES):
+            for module, rows in table.items():
+                for told in rows:
+                    with self.subTest(module=module, told=told):
+                        found = getattr(importlib.import_module(f"rangekeep.{module}"), told.partition("(")[0])
+                        self.assertIs(inspect.isclass(found), table is CLASSES)
+                        self.check(found, told, module)
+
+    def test_methods_stand_in_their_class(self):
+        for (module, name), rows in METHODS.items():
+            owner = getattr(importlib.import_module(f"rangekeep.{module}"), name)
+            for told in rows:
+                with self.subTest(module=module, told=told):
+                    self.check(vars(owner)[told.partition("(")[0]], told, module)
+
+
+if __name__ == "__main__":
+    unittest.main()
