@@ -85,6 +85,38 @@ raises InvalidFrame
 >>> pages_of(("time", 7), 2047)
 [[2047, 0, 1, 7, 40]]
 """,
+    "orbits": """
+>>> from rangekeep.orbits import Orbit, is_above, is_seen, position
+>>> orbit = Orbit(0, 4000, (100, 0, 0), (1048576, -1, 0), (0, 0, 2))
+>>> [position(orbit, 0), position(orbit, 3), position(orbit, 2000)]
+[(100, 0, 0), (103, -1, 0), (2100, -1, 3)]
+>>> [is_seen(5, (-9, 0, 0), (9, 1, 0)), is_seen(5, (-9, 5, 0), (9, 5, 0)), is_above((1, 1), (3, 0, 0), (5, 2, 0)), is_above((1, 1), (3, 0, 0), (5, 3, 0))]
+[False, True, True, False]
+""",
+    "clocks": """
+>>> from rangekeep.clocks import Clock, reading, time_of
+>>> clock = Clock(10, 100, -65536)
+>>> [reading(clock, 10), reading(clock, 11), reading(clock, 26), reading(clock, 27), time_of(clock, 125), time_of(clock, 126)]
+[110, 110, 125, 125, 26, 28]
+""",
+    "boxes": """
+>>> from rangekeep.boxes import cut, distance, middle, near_far, root, volume
+>>> box = ((0, 3), (1, 8), (5, 5))
+>>> [root(99), distance((0, 0, 0), (3, 4, 1)), volume(box), near_far(box, (2, 0, 9)), middle(box)]
+[9, 5, 32, (4, 9), (1, 4)]
+>>> cut(box, 1, 4)
+(((0, 3), (1, 4), (5, 5)), ((0, 3), (5, 8), (5, 5)))
+""",
+    "offsets": """
+>>> from rangekeep.offsets import Observation, at_least, common, deepest, holds, possible
+>>> one = Observation(0, (0, 0, 0), 20, 1, None)
+>>> far = Observation(1, (9, 9, 9), 3, 1, 10)
+>>> [holds(one, 15, 4), holds(far, 7, 26), possible(one, (10, 12), -5, 50), possible(far, (7, 8), 0, 20)]
+[True, True, [(7, 11)], [(4, 7), (14, 17)]]
+>>> rows = [[(7, 11)], [(4, 7), (14, 17)]]
+>>> [common(rows[0], rows[1]), deepest(rows), at_least(rows, 1)]
+[[(7, 7)], (2, 7), [(4, 11), (14, 17)]]
+""",
 }
 
 

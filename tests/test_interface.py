@@ -18,6 +18,12 @@ FUNCTIONS = {
     "framing": ["stuff(bits)", "unstuff(bits)", "stream_of(contents)", "frames_in(bits)"],
     "records": ["is_record(value)", "cells_of(record)", "read_record(cells)", "pages_of(record, number)",
                 "contents_of(records, number)", "read_page(content)"],
+    "orbits": ["position(orbit, t)", "is_seen(radius, p, q)", "is_above(mask, p, q)"],
+    "clocks": ["reading(clock, t)", "time_of(clock, value)"],
+    "boxes": ["root(n)", "distance(first, second)", "volume(box)", "is_inside(box, point)", "near_far(box, point)",
+              "cut(box, axis, at)", "middle(box)"],
+    "offsets": ["holds(observation, distance, offset)", "possible(observation, span, least, greatest)",
+                "common(first, second)", "deepest(rows)", "at_least(rows, depth)"],
 }
 CLASSES = {
     "errors": ["RangekeepError(place)", "InvalidCode(place)", "InvalidBits(place)", "InvalidFrame(place)",
@@ -26,12 +32,18 @@ CLASSES = {
     "margin": ["Settings(codes, amplitudes, noise, moving)"],
     "framing": ["Framer()"],
     "records": ["Collector()"],
+    "orbits": ["Orbit(begin, end, place, speed, pull)"],
+    "clocks": ["Clock(begin, offset, drift)"],
+    "offsets": ["Observation(sender, point, reading, slack, modulus)"],
 }
 METHODS = {
     ("samples", "Stream"): ["__init__(self, code, amplitude, first, steps, bits)", "__eq__(self, other)"],
     ("margin", "Settings"): ["__init__(self, codes, amplitudes, noise, moving)", "__eq__(self, other)"],
     ("framing", "Framer"): ["__init__(self)", "feed(self, bits)"],
     ("records", "Collector"): ["__init__(self)", "take(self, content)"],
+    ("orbits", "Orbit"): ["__init__(self, begin, end, place, speed, pull)", "__eq__(self, other)"],
+    ("clocks", "Clock"): ["__init__(self, begin, offset, drift)", "__eq__(self, other)"],
+    ("offsets", "Observation"): ["__init__(self, sender, point, reading, slack, modulus)", "__eq__(self, other)"],
 }
 
 
