@@ -52,3 +52,8 @@ def middle(box):
         return None
     axis = sizes.index(longest)
     return axis, sum(box[axis]) // 2
+
+
+def box_about(points):
+    """Return the least box that has all of some points."""
+    return tuple([(min(row), max(row)) for row in zip(*points)])

@@ -1,7 +1,11 @@
-"""What several tests need: samples that some settings allow."""
+"""What several tests need: samples that some settings allow, and problems that are solved by trying all states."""
 
 import random
+from itertools import product
+from math import isqrt
 
+from rangekeep.fixing import Problem
+from rangekeep.offsets import Observation
 from rangekeep.samples import Stream, samples
 
 
@@ -28,3 +32,90 @@ def allowed(seed, settings, size, sent=None):
 
 def bits_of(text):
     return [int(sign) for sign in text if sign in "01"]
+
+
+def points_of(box):
+    return list(product(*[range(low, high + 1) for low, high in box]))
+
+
+def written_distance(p, q):
+    return isqrt(sum((a - b) ** 2 for a, b in zip(p, q)))
+
+
+def written_holds(one, far, offset):
+    """Point 13.1, by trying all numbers of the same remainder that can be near."""
+    if one.modulus is None:
+        return abs(far + offset - one.reading) <= one.slack
+    many = (abs(far + offset - one.reading) + one.slack) // one.modulus + 1
+    return any(abs(far + offset - (one.reading + k * one.modulus)) <= one.slack for k in range(-many, many + 1))
+
+
+def offsets_of(spans):
+    return [offset for low, high in spans for offset in range(low, high + 1)]
+
+
+def spans_of(offsets):
+    """The intervals of ascending offsets."""
+    told = []
+    for offset in offsets:
+        if told and told[-1][1] == offset - 1:
+            told[-1] = (told[-1][0], offset)
+        else:
+            told.append((offset, offset))
+    return told
+
+
+def served_by(problem, point, offset):
+    """Point 14.1: for each sender, ascending, whether a state serves it."""
+    told = {one.sender: True for one in sorted(problem.observations, key=lambda one: one.sender)}
+    for one in problem.observations:
+        if not written_holds(one, written_distance(point, one.point), offset):
+            told[one.sender] = False
+    return told
+
+
+def all_states(problem):
+    return [(point, offset) for point in points_of(problem.box)
+            for offset in range(problem.least, problem.greatest + 1)]
+
+
+def states_of(problem):
+    """Point 14.2: the states that are solutions, by trying all."""
+    told = []
+    for point, offset in all_states(problem):
+        if list(served_by(problem, point, offset).values()).count(False) <= problem.faults:
+            told.append((point, offset))
+    return told
+
+
+def set_of(states):
+    """Point 17.2: ascending states as a set."""
+    return [(point, spans_of([offset for other, offset in states if other == point]))
+            for point in sorted({point for point, _ in states})]
+
+
+def random_box(rng, size, side):
+    told = []
+    for _ in range(3):
+        low = rng.randint(-size, size)
+        told.append((low, low + rng.randint(0, side)))
+    return tuple(told)
+
+
+def random_point(rng, size):
+    return tuple(rng.randint(-size, size) for _ in range(3))
+
+
+def random_problem(rng, side=2, senders=4, observations=6):
+    """A small problem. Many of its observations are about right for one state."""
+    box = random_box(rng, 6, side)
+    least = rng.randint(-5, 5)
+    greatest = least + rng.randint(0, 8)
+    true, offset = rng.choice(points_of(box)), rng.randint(least, greatest)
+    told = []
+    for _ in range(rng.randint(0, observations)):
+        at = random_point(rng, 9)
+        reading = written_distance(at, true) + offset + rng.choice((0, 0, 0, 1, -2, 5))
+        told.append(Observation(3 * rng.randint(0, senders - 1), at, reading, rng.choice((0, 0, 1, 2)),
+                                rng.choice((None, None, 4, 7))))
+    return Problem(told, box, least, greatest, rng.choice((0, 0, 1, 1, 2, senders)))

@@ -2,13 +2,10 @@ import random
 import unittest
 from itertools import product
 
+from helpers import points_of, random_box, random_point
 from rangekeep.boxes import cut, distance, is_inside, middle, near_far, root, volume
 
 TOP = 1000000
-
-
-def points_of(box):
-    return list(product(*[range(low, high + 1) for low, high in box]))
 
 
 def square(p, q):
@@ -25,18 +22,6 @@ def expected_root(n):
         else:
             high = at
     return low
-
-
-def random_box(rng, size, side):
-    told = []
-    for _ in range(3):
-        low = rng.randint(-size, size)
-        told.append((low, low + rng.randint(0, side)))
-    return tuple(told)
-
-
-def random_point(rng, size):
-    return tuple(rng.randint(-size, size) for _ in range(3))
 
 
 class RootTest(unittest.TestCase):

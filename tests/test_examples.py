@@ -117,6 +117,56 @@ raises InvalidFrame
 >>> [common(rows[0], rows[1]), deepest(rows), at_least(rows, 1)]
 [[(7, 7)], (2, 7), [(4, 11), (14, 17)]]
 """,
+    "ranges": """
+>>> from rangekeep.clocks import Clock
+>>> from rangekeep.orbits import Orbit
+>>> from rangekeep.ranges import observed, observed_unread, sent_at, start_of, steps_of
+>>> orbit = Orbit(0, 1000, (30, 40, 0), (0, 0, 0), (0, 0, 0))
+>>> clock = Clock(0, 5, 0)
+>>> [sent_at(clock, 15, 4), start_of(orbit, clock, 15, 4, (0, 0, 0), 7), steps_of(orbit, clock, 15, 4, 2, (0, 0, 0), 7)]
+[55, 112, [0, 0]]
+>>> track = [(97, 1), (112, 0), (127, 1)]
+>>> one = observed(3, orbit, clock, 15, track, 0, 45, 120)
+>>> [one.sender, one.point, one.reading, one.slack, one.modulus]
+[3, (30, 40, 0), 57, 0, None]
+>>> [observed_unread(3, orbit, clock, 15, track, 120).reading, observed(3, orbit, clock, 15, track, 0, 45, 96)]
+[117, None]
+""",
+    "fixing": """
+>>> from rangekeep.fixing import Problem, is_solution, offsets_at, places, tree
+>>> from rangekeep.offsets import Observation
+>>> seen = [Observation(0, (0, 0, 0), 5, 0, None), Observation(1, (8, 0, 0), 3, 0, None)]
+>>> problem = Problem(seen, ((0, 8), (0, 0), (0, 0)), 0, 0, 0)
+>>> [places(problem), offsets_at(problem, (5, 0, 0)), is_solution(problem, (4, 0, 0), 0)]
+[[(5, 0, 0)], [(0, 0)], False]
+>>> tree(problem)
+('cut', 0, 4, ('out',), ('cut', 0, 6, ('cut', 0, 5, ('place',), ('out',)), ('out',)))
+""",
+    "faults": """
+>>> from rangekeep.faults import extent, least_faults, verdicts
+>>> from rangekeep.fixing import Problem
+>>> from rangekeep.offsets import Observation
+>>> seen = [Observation(0, (0, 0, 0), 5, 0, None), Observation(1, (8, 0, 0), 3, 0, None), Observation(2, (0, 0, 0), 7, 0, None)]
+>>> problem = Problem(seen, ((0, 8), (0, 0), (0, 0)), 0, 0, 1)
+>>> [verdicts(problem), least_faults(problem), extent(problem)]
+[['right', 'right', 'wrong'], 1, (((5, 5), (0, 0), (0, 0)), 0, 0)]
+""",
+    "tracks": """
+>>> from rangekeep.fixing import Problem
+>>> from rangekeep.offsets import Observation
+>>> from rangekeep.tracks import Journey, fitting, kept, least_misses, moment_verdicts, some_track
+>>> line = ((0, 8), (0, 0), (0, 0))
+>>> first = Problem([Observation(0, (0, 0, 0), 2, 0, None)], line, 0, 0, 0)
+>>> second = Problem([Observation(0, (0, 0, 0), 5, 1, None)], line, 0, 0, 0)
+>>> journey = Journey([(0, first), (4, second), (6, None)], 524288, 0, 0)
+>>> kept(journey)
+[[((2, 0, 0), [(0, 0)])], [((4, 0, 0), [(0, 0)])], None]
+>>> [some_track(journey), fitting(journey, 2, (3, 0, 0), -5, 5), fitting(journey, 2, (4, 0, 0), -5, 5)]
+[[((2, 0, 0), 0), ((4, 0, 0), 0), None], [(0, 0)], []]
+>>> sooner = Journey([(0, first), (2, second)], 524288, 0, 1)
+>>> [moment_verdicts(journey), least_misses(sooner), moment_verdicts(sooner)]
+[['right', 'right', 'open'], 1, ['open', 'open']]
+""",
 }
 
 
@@ -148,7 +198,7 @@ class ExamplesTest(unittest.TestCase):
     def test_the_readme(self):
         readme = pathlib.Path(__file__).resolve().parent.parent / "README.md"
         blocks = re.findall("```\n(>>>.*?)```", readme.read_text(), re.DOTALL)
-        self.assertEqual(len(blocks), 2)
+        self.assertEqual(len(blocks), 3)
         for text in blocks:
             self.check(text)
 

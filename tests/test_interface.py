@@ -24,6 +24,18 @@ FUNCTIONS = {
               "cut(box, axis, at)", "middle(box)"],
     "offsets": ["holds(observation, distance, offset)", "possible(observation, span, least, greatest)",
                 "common(first, second)", "deepest(rows)", "at_least(rows, depth)"],
+    "ranges": ["sent_at(clock, length, m)", "start_of(orbit, clock, length, m, point, offset)",
+               "steps_of(orbit, clock, length, m, count, point, offset)",
+               "observed(sender, orbit, clock, length, track, place, count, n)",
+               "observed_unread(sender, orbit, clock, length, track, n)"],
+    "fixing": ["senders(problem)", "rows(problem, box)", "reach(problem, box)", "is_solution(problem, point, offset)",
+               "offsets_at(problem, point)", "places(problem)", "tree(problem)"],
+    "faults": ["verdicts(problem)", "least_faults(problem)", "extent(problem)"],
+    "judging": ["shown(problem, paper)", "shown_verdicts(problem, paper)", "faults_paper(problem)",
+                "shows_faults(problem, faults, paper)"],
+    "tracks": ["solutions(problem)", "is_linked(journey, elapsed, first, second)", "is_track(journey, track)",
+               "kept(journey)", "fitting(journey, time, point, least, greatest)", "some_track(journey)",
+               "track_through(journey, k, state)", "least_misses(journey)", "moment_verdicts(journey)"],
 }
 CLASSES = {
     "errors": ["RangekeepError(place)", "InvalidCode(place)", "InvalidBits(place)", "InvalidFrame(place)",
@@ -35,6 +47,8 @@ CLASSES = {
     "orbits": ["Orbit(begin, end, place, speed, pull)"],
     "clocks": ["Clock(begin, offset, drift)"],
     "offsets": ["Observation(sender, point, reading, slack, modulus)"],
+    "fixing": ["Problem(observations, box, least, greatest, faults)"],
+    "tracks": ["Journey(moments, speed, drift, misses)", "Tracker(speed, drift, misses)"],
 }
 METHODS = {
     ("samples", "Stream"): ["__init__(self, code, amplitude, first, steps, bits)", "__eq__(self, other)"],
@@ -44,6 +58,9 @@ METHODS = {
     ("orbits", "Orbit"): ["__init__(self, begin, end, place, speed, pull)", "__eq__(self, other)"],
     ("clocks", "Clock"): ["__init__(self, begin, offset, drift)", "__eq__(self, other)"],
     ("offsets", "Observation"): ["__init__(self, sender, point, reading, slack, modulus)", "__eq__(self, other)"],
+    ("fixing", "Problem"): ["__init__(self, observations, box, least, greatest, faults)", "__eq__(self, other)"],
+    ("tracks", "Journey"): ["__init__(self, moments, speed, drift, misses)", "__eq__(self, other)"],
+    ("tracks", "Tracker"): ["__init__(self, speed, drift, misses)", "take(self, time, problem)", "journey(self)"],
 }
 
 

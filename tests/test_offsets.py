@@ -3,30 +3,8 @@ import random
 import unittest
 from itertools import product
 
+from helpers import offsets_of, spans_of, written_holds
 from rangekeep.offsets import Observation, at_least, common, deepest, holds, possible
-
-
-def expected_holds(one, far, offset):
-    """Point 13.1, by trying all numbers of the same remainder that can be near."""
-    if one.modulus is None:
-        return abs(far + offset - one.reading) <= one.slack
-    many = (abs(far + offset - one.reading) + one.slack) // one.modulus + 1
-    return any(abs(far + offset - (one.reading + k * one.modulus)) <= one.slack for k in range(-many, many + 1))
-
-
-def offsets_of(spans):
-    return [offset for low, high in spans for offset in range(low, high + 1)]
-
-
-def spans_of(offsets):
-    """The intervals of ascending offsets."""
-    told = []
-    for offset in offsets:
-        if told and told[-1][1] == offset - 1:
-            told[-1] = (told[-1][0], offset)
-        else:
-            told.append((offset, offset))
-    return told
 
 
 def random_spans(rng, size):
@@ -98,14 +76,14 @@ class HoldsTest(unittest.TestCase):
         for _ in range(4000):
             one = observation(rng.randint(-40, 40), rng.randint(0, 5), rng.choice((None, 1, 2, 5, 9, 30)))
             far, offset = rng.randint(0, 30), rng.randint(-60, 60)
-            self.assertIs(holds(one, far, offset), expected_holds(one, far, offset))
+            self.assertIs(holds(one, far, offset), written_holds(one, far, offset))
 
 
 class PossibleTest(unittest.TestCase):
     def check(self, one, span, least, greatest):
         near, far = span
         expected = [offset for offset in range(least, greatest + 1)
-                    if any(expected_holds(one, at, offset) for at in range(near, far + 1))]
+                    if any(written_holds(one, at, offset) for at in range(near, far + 1))]
         self.assertEqual(possible(one, span, least, greatest), spans_of(expected))
 
     def test_all_short_cases(self):

@@ -4,6 +4,7 @@ from fractions import Fraction
 from itertools import product
 from math import floor
 
+from helpers import random_point
 from rangekeep.errors import InvalidOrbit
 from rangekeep.orbits import Orbit, is_above, is_seen, position
 
@@ -44,10 +45,6 @@ def expected_above(mask, p, q):
     height = Fraction(scalar(p, d) ** 2, scalar(p, p))
     ground = scalar(d, d) - height
     return scalar(p, d) >= 0 and height * mask[1] ** 2 >= mask[0] ** 2 * ground
-
-
-def random_point(rng, size):
-    return tuple(rng.randint(-size, size) for _ in range(3))
 
 
 class OrbitTest(unittest.TestCase):

@@ -1,0 +1,94 @@
+"""Sets of states: points with the intervals of their offsets, ascending by the points."""
+
+from rangekeep.boxes import box_about, middle
+from rangekeep.offsets import at_least, common
+
+
+def either(sets):
+    """Return the states that are in at least one of the sets."""
+    found = {}
+    for states in sets:
+        for point, offsets in states:
+            found.setdefault(point, []).append(offsets)
+    return [(point, at_least(found[point], 1)) for point in sorted(found)]
+
+
+def both(first, second):
+    """Return the states that are in both of two sets."""
+    others = {point: offsets for point, offsets in second}
+    shared = [(point, common(offsets, others.get(point, []))) for point, offsets in first]
+    return [(point, offsets) for point, offsets in shared if offsets]
+
+
+def near_state(states, state, far, apart):
+    """Return a state of a set whose coordinates and whose offset are no farther away, or None if there is none."""
+    (x, y, z), offset = state
+    for (u, v, w), offsets in states:
+        if abs(u - x) <= far and abs(v - y) <= far and abs(w - z) <= far:
+            near = common(offsets, [(offset - apart, offset + apart)])
+            if near:
+                return (u, v, w), near[0][0]
+    return None
+
+
+def search_tree(states):
+    """Return a tree of a set, in which what is near a point is found without looking at all states.
+
+    A tree has the least box with the points, all of their offsets together, and
+    the trees of the points in the two halves of the box, or none for one point.
+    The tree of an empty set is None.
+    """
+    if not states:
+        return None
+    box = box_about([point for point, _ in states])
+    half = middle(box)
+    if half is None:
+        _, offsets = states[0]
+        return box, offsets, ()
+    axis, at = half
+    first = search_tree([state for state in states if state[0][axis] <= at])
+    second = search_tree([state for state in states if state[0][axis] > at])
+    return box, at_least([first[1], second[1]], 1), (first, second)
+
+
+def near_offsets(tree, window, apart, wanted):
+    """Return those of the wanted offsets that are no farther from an offset of some point in a window, a box."""
+    box, offsets, parts = tree
+    if _is_outside_of(box, window):
+        return []
+    found = common(_widened(offsets, apart), wanted)
+    if not found or _is_part_of(box, window):
+        return found
+    first, second = parts
+    told = near_offsets(first, window, apart, found)
+    # Where the first half gives all that both can give, the second one need not be looked at.
+    if told == found:
+        return told
+    return at_least([told, near_offsets(second, window, apart, found)], 1)
+
+
+def _is_outside_of(box, window):
+    """Tell whether no point of a box lies in a window."""
+    for (low, high), (least, greatest) in zip(box, window):
+        if high < least or greatest < low:
+            return True
+    return False
+
+
+def _is_part_of(box, window):
+    """Tell whether all points of a box lie in a window."""
+    for (low, high), (least, greatest) in zip(box, window):
+        if low < least or greatest < high:
+            return False
+    return True
+
+
+def _widened(offsets, apart):
+    """Return the intervals of the offsets that are no farther from one of some intervals."""
+    told = []
+    for low, high in offsets:
+        if told and low - apart <= told[-1][1] + 1:
+            told[-1] = (told[-1][0], high + apart)
+        else:
+            told.append((low - apart, high + apart))
+    return told
