@@ -49,7 +49,7 @@ def best_state(problem):
         _, _, box = heappop(ahead)
         half = middle(box)
         if half is None:
-            return _best_at(problem, box)
+            return best_at(problem, box)
         axis, at = half
         for part in cut(box, axis, at):
             heappush(ahead, _entry(problem, part))
@@ -59,7 +59,7 @@ def _entry(problem, box):
     return -reach(problem, box), volume(box), box
 
 
-def _best_at(problem, box):
+def best_at(problem, box):
     """Return the greatest number of senders that are served at the point of a box, and such a state."""
     served, offset = deepest(rows(problem, box))
     point = tuple([low for low, _ in box])

@@ -10,6 +10,14 @@ def leeway(journey, elapsed):
     return in_units(journey.speed * elapsed), in_units(journey.drift * elapsed)
 
 
+def linked_offsets(journey, tree, elapsed, point, wanted):
+    """Return those of the wanted offsets with which a point is linked with some state of a search tree."""
+    if tree is None:
+        return []
+    far, apart = leeway(journey, elapsed)
+    return near_offsets(tree, tuple([(at - far, at + far) for at in point]), apart, wanted)
+
+
 class Front:
     """Tells which states of known moments end a track of the moments that were met up to them.
 
@@ -28,6 +36,10 @@ class Front:
         """Meet the next known moment, with the set of its solutions."""
         self._times.append(time)
         self._sets.append(states)
+
+    def many(self):
+        """Return how many moments were met."""
+        return len(self._times)
 
     def layer(self, k, missed):
         """Return the states of a moment that end a track which misses at most so many moments before it."""
@@ -66,11 +78,10 @@ class Front:
             return wanted
         told = []
         for k, left in _last_states(many, missed):
-            _, tree = self._layer(k, left)
-            if tree is not None and told != wanted:
-                far, apart = leeway(self._journey, abs(time - self._times[k]))
-                window = tuple([(at - far, at + far) for at in point])
-                told = at_least([told, near_offsets(tree, window, apart, wanted)], 1)
+            if told != wanted:
+                _, tree = self._layer(k, left)
+                found = linked_offsets(self._journey, tree, abs(time - self._times[k]), point, wanted)
+                told = at_least([told, found], 1)
         return told
 
     def way(self, many, time, state, missed):

@@ -1,8 +1,9 @@
 """Judging: papers of anybody that show the places of a problem, or its least faults, are checked without a search."""
 
-from rangekeep.boxes import cut, is_inside, volume
+from rangekeep.boxes import cut, volume
 from rangekeep.faults import best_state, verdicts_from
 from rangekeep.fixing import Problem, is_solution, needed, reach, senders, tree
+from rangekeep.forms import is_state_of, is_tuple_of, is_whole
 
 
 def shown(problem, paper):
@@ -27,7 +28,7 @@ def shown(problem, paper):
 
 def _is_cut(box, node):
     """Tell whether a part of a paper is a cut of a box, whatever its two trees are."""
-    if not isinstance(node, tuple) or len(node) != 5 or node[0] != "cut":
+    if not is_tuple_of(node, 5) or node[0] != "cut":
         return False
     axis, at = node[1], node[2]
     if not is_whole(axis) or not 0 <= axis <= 2 or not is_whole(at):
@@ -41,11 +42,6 @@ def _is_end(box, node, is_reached):
     if node == ("out",):
         return not is_reached
     return node == ("place",) and is_reached and volume(box) == 1
-
-
-def is_whole(value):
-    """Tell whether a value is an integer; a truth value is none."""
-    return isinstance(value, int) and not isinstance(value, bool)
 
 
 def shown_verdicts(problem, paper):
@@ -63,10 +59,10 @@ def faults_paper(problem):
 
 def shows_faults(problem, faults, paper):
     """Tell whether a paper shows that a number is the least faults of a problem."""
-    if not isinstance(paper, tuple) or len(paper) != 2:
+    if not is_tuple_of(paper, 2):
         return False
     fewer, state = paper
-    if not _is_state(problem, state):
+    if not is_state_of(problem, state):
         return False
     point, offset = state
     if not is_solution(_with_faults(problem, faults), point, offset):
@@ -78,18 +74,3 @@ def shows_faults(problem, faults, paper):
 
 def _with_faults(problem, faults):
     return Problem(problem.observations, problem.box, problem.least, problem.greatest, faults)
-
-
-def _is_state(problem, value):
-    """Tell whether a value is a state of a problem."""
-    if not isinstance(value, tuple) or len(value) != 2:
-        return False
-    point, offset = value
-    if not is_point(point) or not is_whole(offset):
-        return False
-    return is_inside(problem.box, point) and problem.least <= offset <= problem.greatest
-
-
-def is_point(value):
-    """Tell whether a value is a tuple of three integers."""
-    return isinstance(value, tuple) and len(value) == 3 and all([is_whole(at) for at in value])

@@ -1,6 +1,7 @@
 """Records: what senders tell, written as cells and sent in pages."""
 
 from rangekeep.errors import InvalidBits, InvalidFrame
+from rangekeep.forms import is_whole
 from rangekeep.words import read_words, words_of
 
 # The code of a record is the place of its word here, counted from 1.
@@ -28,7 +29,7 @@ def is_record(value):
 def _fits(kind, fact):
     """Tell whether a value is a count or a number within its bounds."""
     least = 0 if kind == COUNT else 1 - LIMIT
-    return isinstance(fact, int) and not isinstance(fact, bool) and least <= fact < LIMIT
+    return is_whole(fact) and least <= fact < LIMIT
 
 
 def cells_of(record):

@@ -32,32 +32,38 @@ def near_state(states, state, far, apart):
 
 
 def search_tree(states):
-    """Return a tree of a set, in which what is near a point is found without looking at all states.
+    """Return a tree of a set, in which what is near a point is found without looking at all states."""
+    return box_tree([(box_about([point]), offsets) for point, offsets in states])
 
-    A tree has the least box with the points, all of their offsets together, and
-    the trees of the points in the two halves of the box, or none for one point.
-    The tree of an empty set is None.
+
+def box_tree(rows):
+    """Return a tree of different boxes, each with the intervals of its offsets.
+
+    A tree has the least box with all of the boxes, all of their offsets together,
+    and the trees of the two halves of the boxes, or none for a single box. The
+    tree of no boxes is None.
     """
-    if not states:
+    if not rows:
         return None
-    box = box_about([point for point, _ in states])
-    half = middle(box)
-    if half is None:
-        _, offsets = states[0]
+    if len(rows) == 1:
+        box, offsets = rows[0]
         return box, offsets, ()
-    axis, at = half
-    first = search_tree([state for state in states if state[0][axis] <= at])
-    second = search_tree([state for state in states if state[0][axis] > at])
-    return box, at_least([first[1], second[1]], 1), (first, second)
+    whole = box_about([corner for box, _ in rows for corner in zip(*box)])
+    axis, _ = middle(whole)
+    ordered = sorted([(sum(box[axis]), box, offsets) for box, offsets in rows])
+    half = len(rows) // 2
+    first, second = [box_tree([(box, offsets) for _, box, offsets in part])
+                     for part in (ordered[:half], ordered[half:])]
+    return whole, at_least([first[1], second[1]], 1), (first, second)
 
 
 def near_offsets(tree, window, apart, wanted):
-    """Return those of the wanted offsets that are no farther from an offset of some point in a window, a box."""
+    """Return those of the wanted offsets that are no farther from an offset of some box that meets a window."""
     box, offsets, parts = tree
     if _is_outside_of(box, window):
         return []
     found = common(_widened(offsets, apart), wanted)
-    if not found or _is_part_of(box, window):
+    if not found or not parts or _is_part_of(box, window):
         return found
     first, second = parts
     told = near_offsets(first, window, apart, found)
@@ -68,7 +74,7 @@ def near_offsets(tree, window, apart, wanted):
 
 
 def _is_outside_of(box, window):
-    """Tell whether no point of a box lies in a window."""
+    """Tell whether a box and a window have no point in common."""
     for (low, high), (least, greatest) in zip(box, window):
         if high < least or greatest < low:
             return True

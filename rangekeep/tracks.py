@@ -58,14 +58,14 @@ def is_track(journey, track):
     return missed <= journey.misses
 
 
-def _known(journey):
+def known_moments(journey):
     """Return the index, the time and the solutions of each known moment."""
     told = [(k, time, solutions(problem)) for k, (time, problem) in enumerate(journey.moments)]
     return [(k, time, states) for k, time, states in told if states is not None]
 
 
-def _front(journey, known):
-    """Return a front that has met the known moments, in their order."""
+def front_of(journey, known):
+    """Return a front that has met known moments, in their order."""
     front = Front(journey)
     for _, time, states in known:
         front.meet(time, states)
@@ -74,8 +74,8 @@ def _front(journey, known):
 
 def kept(journey):
     """Return the set of the kept states for each moment, or None for an open one."""
-    known = _known(journey)
-    front, back = _front(journey, known), _front(journey, known[::-1])
+    known = known_moments(journey)
+    front, back = front_of(journey, known), front_of(journey, known[::-1])
     told = [None] * len(journey.moments)
     for i, (k, _, _) in enumerate(known):
         told[k] = _kept_at(front, back, i, len(known) - 1 - i, journey.misses)
@@ -89,30 +89,48 @@ def _kept_at(front, back, before, behind, misses):
 
 
 def fitting(journey, time, point, least, greatest):
-    """Return the intervals of the offsets with which a point fits at a time."""
-    known = _known(journey)
+    """Return the intervals of the offsets from the least to the greatest one with which a point fits at a time."""
+    front, back = fronts_about(journey, known_moments(journey), time)
+    return fitting_offsets(front, back, journey.misses, time, (point, [(least, greatest)]))
+
+
+def fronts_about(journey, known, time):
+    """Return a front of the known moments up to a time, and one of those behind it, from the last one back."""
     before = [row for row in known if row[1] <= time]
     behind = [row for row in known if row[1] > time]
-    front, back = _front(journey, before), _front(journey, behind[::-1])
+    return front_of(journey, before), front_of(journey, behind[::-1])
+
+
+def fitting_offsets(front, back, misses, time, wanted):
+    """Return those offsets, of the wanted ones of a point, with which it goes on from both fronts together."""
+    point, offsets = wanted
     told = []
-    for missed in range(journey.misses + 1):
-        found = front.offsets(len(before), time, point, missed, [(least, greatest)])
-        told.append(back.offsets(len(behind), time, point, journey.misses - missed, found))
+    for missed in range(misses + 1):
+        found = front.offsets(front.many(), time, point, missed, offsets)
+        told.append(back.offsets(back.many(), time, point, misses - missed, found))
     return at_least(told, 1)
 
 
 def some_track(journey):
     """Return a track with as few misses as there can be, or None if there is none."""
-    known = _known(journey)
-    front = _front(journey, known)
-    for missed in range(journey.misses + 1):
-        states = front.some_way(len(known), missed)
+    known = known_moments(journey)
+    _, states = fewest_misses(front_of(journey, known), journey.misses)
+    return None if states is None else spread(journey, known, states)
+
+
+def fewest_misses(front, most):
+    """Return the least number of misses, of those up to the most, of a track of a front, and such a track.
+
+    If there is none, they are one more than the most, and None.
+    """
+    for missed in range(most + 1):
+        states = front.some_way(front.many(), missed)
         if states is not None:
-            return _spread(journey, known, states)
-    return None
+            return missed, states
+    return most + 1, None
 
 
-def _spread(journey, known, states):
+def spread(journey, known, states):
     """Return a list with a state or None for each moment, made of such a list for the known ones."""
     told = [None] * len(journey.moments)
     for (k, _, _), state in zip(known, states):
@@ -122,35 +140,32 @@ def _spread(journey, known, states):
 
 def track_through(journey, k, state):
     """Return a track that has a state at the moment with the index k, or None if there is none."""
-    known = _known(journey)
+    known = known_moments(journey)
     before, behind = [row for row in known if row[0] < k], [row for row in known if row[0] > k]
     here = [states for i, _, states in known if i == k]
     if near_state(either(here), state, 0, 0) is None:
         return None
     time, _ = journey.moments[k]
-    front, back = _front(journey, before), _front(journey, behind[::-1])
+    front, back = front_of(journey, before), front_of(journey, behind[::-1])
     for missed in range(journey.misses + 1):
         first = front.way(len(before), time, state, missed)
         second = back.way(len(behind), time, state, journey.misses - missed)
         if first is not None and second is not None:
-            return _spread(journey, known, first + [state] + second[::-1])
+            return spread(journey, known, first + [state] + second[::-1])
     return None
 
 
 def least_misses(journey):
     """Return the least number of misses with which a journey has a track."""
-    known = _known(journey)
-    front = _front(journey, known)
-    missed = 0
-    while front.some_way(len(known), missed) is None:
-        missed += 1
+    front = front_of(journey, known_moments(journey))
+    missed, _ = fewest_misses(front, front.many())
     return missed
 
 
 def moment_verdicts(journey):
     """Return what is known of each moment: right, wrong or open."""
-    known = _known(journey)
-    front, back = _front(journey, known), _front(journey, known[::-1])
+    known = known_moments(journey)
+    front, back = front_of(journey, known), front_of(journey, known[::-1])
     told = ["open"] * len(journey.moments)
     if front.some_way(len(known), journey.misses) is not None:
         for i, (k, _, _) in enumerate(known):

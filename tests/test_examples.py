@@ -167,6 +167,37 @@ raises InvalidFrame
 >>> [moment_verdicts(journey), least_misses(sooner), moment_verdicts(sooner)]
 [['right', 'right', 'open'], 1, ['open', 'open']]
 """,
+    "papers": """
+>>> from rangekeep.fixing import Problem, tree
+>>> from rangekeep.offsets import Observation
+>>> from rangekeep.papers import out_paper, shows_out
+>>> from rangekeep.tracks import Journey
+>>> line = ((0, 8), (0, 0), (0, 0))
+>>> first = Problem([Observation(0, (0, 0, 0), 2, 0, None)], line, 0, 0, 0)
+>>> journey = Journey([(0, first), (6, None)], 524288, 0, 0)
+>>> block = (((0, 2), (0, 0), (0, 0)), 0, 0)
+>>> paper = ((tree(first), None), (((block,),),), ())
+>>> [shows_out(journey, 4, ((5, 0, 0), 0), paper), shows_out(journey, 4, ((4, 0, 0), 0), paper), out_paper(journey, 4, ((4, 0, 0), 0))]
+[True, False, None]
+>>> shows_out(journey, 4, ((4, 0, 0), 1), out_paper(journey, 4, ((4, 0, 0), 1)))
+True
+""",
+    "later": """
+>>> from rangekeep.later import Chain, KeyReceiver, KeySender
+>>> chain = Chain(7, 3)
+>>> sender = KeySender(chain, 10, 1)
+>>> receiver = KeyReceiver(chain.anchor(), 3, 10, 1, 2)
+>>> packet = sender.tag(14, ("word", 5))
+>>> [receiver.hear(15, packet), receiver.hear(17, packet), receiver.hear(18, packet), receiver.kept()]
+[[], [], [], 2]
+>>> [sender.key(19), receiver.hear(21, sender.key(20)), receiver.latest()]
+[None, [(1, ('word', 5)), (1, ('word', 5))], 1]
+
+>>> from rangekeep.terms import can_make
+>>> known = [("pair", ("hash", ("seed", 1)), ("word", 2))]
+>>> [can_make(known, ("hash", ("hash", ("seed", 1)))), can_make(known, ("seed", 1)), can_make(known, ("mark", ("seed", 1), ("word", 0)))]
+[True, False, False]
+""",
 }
 
 

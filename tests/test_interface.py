@@ -36,6 +36,12 @@ FUNCTIONS = {
     "tracks": ["solutions(problem)", "is_linked(journey, elapsed, first, second)", "is_track(journey, track)",
                "kept(journey)", "fitting(journey, time, point, least, greatest)", "some_track(journey)",
                "track_through(journey, k, state)", "least_misses(journey)", "moment_verdicts(journey)"],
+    "papers": ["out_paper(journey, time, state)", "shows_out(journey, time, state, paper)", "none_paper(journey)",
+               "shows_none(journey, paper)", "misses_paper(journey)", "shows_misses(journey, misses, paper)"],
+    "terms": ["can_make(known, term)", "parts_of_pairs(known)"],
+    "later": ["hashed(term, count)"],
+    "receiver": ["heard(bands, samples)", "told_at(one, length, n, known)", "observations(bands, almanac, samples, n)",
+                 "problem_at(bands, almanac, samples, n, box, least, greatest, faults)"],
 }
 CLASSES = {
     "errors": ["RangekeepError(place)", "InvalidCode(place)", "InvalidBits(place)", "InvalidFrame(place)",
@@ -49,6 +55,9 @@ CLASSES = {
     "offsets": ["Observation(sender, point, reading, slack, modulus)"],
     "fixing": ["Problem(observations, box, least, greatest, faults)"],
     "tracks": ["Journey(moments, speed, drift, misses)", "Tracker(speed, drift, misses)"],
+    "later": ["Chain(seed, length)", "KeySender(chain, step, delay)",
+              "KeyReceiver(anchor, length, step, delay, error)"],
+    "receiver": ["Heard(track, frames, records)"],
 }
 METHODS = {
     ("samples", "Stream"): ["__init__(self, code, amplitude, first, steps, bits)", "__eq__(self, other)"],
@@ -61,6 +70,11 @@ METHODS = {
     ("fixing", "Problem"): ["__init__(self, observations, box, least, greatest, faults)", "__eq__(self, other)"],
     ("tracks", "Journey"): ["__init__(self, moments, speed, drift, misses)", "__eq__(self, other)"],
     ("tracks", "Tracker"): ["__init__(self, speed, drift, misses)", "take(self, time, problem)", "journey(self)"],
+    ("later", "Chain"): ["__init__(self, seed, length)", "key(self, i)", "anchor(self)"],
+    ("later", "KeySender"): ["__init__(self, chain, step, delay)", "tag(self, time, message)", "key(self, time)"],
+    ("later", "KeyReceiver"): ["__init__(self, anchor, length, step, delay, error)", "hear(self, reading, packet)",
+                               "latest(self)", "kept(self)"],
+    ("receiver", "Heard"): ["__init__(self, track, frames, records)", "__eq__(self, other)"],
 }
 
 

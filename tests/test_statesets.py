@@ -3,7 +3,7 @@ import random
 import unittest
 
 from helpers import offsets_of, random_box, random_point, spans_of
-from rangekeep.statesets import both, either, near_offsets, near_state, search_tree
+from rangekeep.statesets import both, box_tree, either, near_offsets, near_state, search_tree
 
 
 def random_set(rng, size=3, many=12):
@@ -93,8 +93,33 @@ class NearTest(unittest.TestCase):
     def test_intervals_that_touch_when_they_are_widened(self):
         here = ((0, 0),) * 3
         for offsets, told in [([(0, 0), (3, 3)], [(-1, 4)]), ([(0, 0), (4, 4)], [(-1, 1), (3, 5)]),
-                              ([(0, 0), (2, 2), (5, 6)], [(-1, 7)])]:
-            self.assertEqual(near_offsets(search_tree([((0, 0, 0), offsets)]), here, 1, [(-9, 9)]), told)
+                              ([(0, 0), (2, 2), (5, 6)], [(-1, 7)]), ([(0, 0), (9, 9), (11, 12)], [(-1, 1), (8, 13)])]:
+            self.assertEqual(near_offsets(search_tree([((0, 0, 0), offsets)]), here, 1, [(-9, 19)]), told)
+
+    def test_boxes(self):
+        rng = random.Random(6)
+        found = {}
+        for _ in range(1500):
+            rows = {}
+            for _ in range(rng.choice((1, 3, 20))):
+                rows[random_box(rng, rng.choice((2, 9)), rng.choice((0, 2, 9)))] = spans_of(
+                    [offset for offset in range(-8, 9) if rng.random() < rng.choice((0.1, 0.5))] or [0])
+            window, apart = random_box(rng, 6, rng.choice((0, 2, 9))), rng.choice((0, 0, 1, 3))
+            wanted = [offset for offset in range(-12, 13) if rng.random() < rng.choice((0.3, 0.9))]
+            near = [b for box, spans in rows.items() for b in offsets_of(spans)
+                    if all(max(low, first) <= min(high, last) for (low, high), (first, last) in zip(window, box))]
+            expected = [offset for offset in wanted if any(abs(offset - b) <= apart for b in near)]
+            tree = box_tree(list(rows.items()))
+            self.assertEqual(near_offsets(tree, window, apart, spans_of(wanted)), spans_of(expected))
+            found[len(expected) > 0] = found.get(len(expected) > 0, 0) + 1
+        self.assertGreater(min(found.values()), 200)
+        self.assertIsNone(box_tree([]))
+
+    def test_boxes_with_the_same_middle_in_many_copies(self):
+        rows = [(((-k, k), (0, 0), (0, 0)), [(k, k)]) for k in range(3000)]
+        tree = box_tree(rows)
+        self.assertEqual(near_offsets(tree, ((2990, 2995), (0, 0), (0, 0)), 0, [(0, 9999)]), [(2990, 2999)])
+        self.assertEqual(near_offsets(tree, ((-7, -7), (0, 0), (0, 0)), 0, [(0, 9)]), [(7, 9)])
 
     def test_the_tree_of_one_state_and_of_many_points(self):
         self.assertIsNone(search_tree([]))
