@@ -119,3 +119,40 @@ def random_problem(rng, side=2, senders=4, observations=6):
         told.append(Observation(3 * rng.randint(0, senders - 1), at, reading, rng.choice((0, 0, 1, 2)),
                                 rng.choice((None, None, 4, 7))))
     return Problem(told, box, least, greatest, rng.choice((0, 0, 1, 1, 2, senders)))
+
+
+STRANGE = [None, True, False, 0, 1, -1, "", "out", [], ((),), (None,), ((), ()), ((0, 0), 0, 0), "xyz"]
+
+
+def part_at(paper, path):
+    for k in path:
+        paper = paper[k]
+    return paper
+
+
+def changed(paper, path, part):
+    """The paper with another part at a path."""
+    if not path:
+        return part
+    return paper[:path[0]] + (changed(paper[path[0]], path[1:], part),) + paper[path[0] + 1:]
+
+
+def places_in(paper, path=()):
+    """The paths of all parts of a paper, with the paper itself."""
+    told = [path]
+    if isinstance(paper, tuple):
+        for k, part in enumerate(paper):
+            told += places_in(part, path + (k,))
+    return told
+
+
+def spoiled(paper):
+    """Papers with one part that is wrong; no integer becomes another one, and no part an empty tuple."""
+    for path in places_in(paper):
+        was = part_at(paper, path)
+        for value in STRANGE + ([was + (None,), was[:-1], list(was)] if was and isinstance(was, tuple) else []):
+            is_number = isinstance(was, int) and isinstance(value, int) and not isinstance(value, bool)
+            if value != () and not is_number:
+                other = changed(paper, path, value)
+                if repr(other) != repr(paper):
+                    yield other

@@ -198,6 +198,49 @@ True
 >>> [can_make(known, ("hash", ("hash", ("seed", 1)))), can_make(known, ("seed", 1)), can_make(known, ("mark", ("seed", 1), ("word", 0)))]
 [True, False, False]
 """,
+    "worlds": r"""
+>>> from rangekeep.clocks import Clock
+>>> from rangekeep.orbits import Orbit
+>>> from rangekeep.worlds import Beacon, bits_of, is_honest
+>>> still = Orbit(0, 9000, (30, 40, 0), (0, 0, 0), (0, 0, 0))
+>>> beacon = Beacon(10, still, Clock(0, 0, 0), 2, 0, [("time", 0)])
+>>> [len(bits_of(beacon, 15)), is_honest(beacon), is_honest(Beacon(10, still, Clock(0, 0, 0), 2, 0, [("clock", 0, 1, 0)]))]
+[106, True, False]
+""",
+    "explaining": r"""
+>>> from rangekeep.explaining import account, excess
+>>> from rangekeep.fixing import Problem
+>>> from rangekeep.offsets import Observation
+>>> near = Observation(0, (0, 0, 0), 5, 1, None)
+>>> far = Observation(1, (9, 0, 0), 2, 0, 10)
+>>> [excess(near, 8, 0), excess(near, 2, 0), excess(far, 7, 0), excess(far, 8, 0)]
+[2, -2, 5, -4]
+>>> account(Problem([near, far], ((0, 9), (0, 0), (0, 0)), 0, 3, 0), (7, 0, 0))
+(1, 0, [[1], [0]])
+""",
+    "console": r"""
+>>> from rangekeep.console import run_script
+>>> from rangekeep.scripts import parse_script, print_command
+>>> parse_script("band 1 still\n\n code (2 3) 10 10 # seven chips\nat (-1 0 2)5")
+[(1, ('band', 1, 'still')), (3, ('code', (2, 3), 10, 10)), (4, ('at', (-1, 0, 2), 5))]
+>>> print_command(("tell", 0, "key", (3, 77)))
+'tell 0 key (3 77)'
+>>> run_script("band 0 still\ncode (2 3) 10 10\nbeacon 0 10 0 0 (3 4 5)\nknow 0\nnoise 40 0\nat (3 4 2) 0\nhear\nbox (3 3) (4 4) (0 8)\nfix 30")
+['sender 0: 5 starts 0 frames 0 records', 'places 2', '(3 4 2) 0..0', '(3 4 8) 0..0']
+
+>>> from rangekeep.scripts import parse_script
+>>> parse_script("hear\nfix")
+raises InvalidScript
+""",
+    "planning": r"""
+>>> from rangekeep.planning import Plan, best, doubt, is_bound, shows_best, worst_doubt
+>>> plan = Plan([(0, 0, 0), (0, 9, 0), (4, 0, 0)], ((0, 2), (0, 0), (0, 0)), 0, 0, 0, 1)
+>>> [doubt(plan, (1,), ((0, 0, 0), 0)), worst_doubt(plan, (0,)), worst_doubt(plan, (1,)), best(plan)]
+[3, 1, 3, ((0,), 1)]
+>>> paper = ("low", ((0, 0, 0), 0), (((0, 0, 0), 0),))
+>>> [is_bound(plan, 1, paper), is_bound(plan, 2, paper), shows_best(plan, (2,), paper), shows_best(plan, (1,), paper)]
+[True, False, True, False]
+""",
 }
 
 
@@ -229,7 +272,7 @@ class ExamplesTest(unittest.TestCase):
     def test_the_readme(self):
         readme = pathlib.Path(__file__).resolve().parent.parent / "README.md"
         blocks = re.findall("```\n(>>>.*?)```", readme.read_text(), re.DOTALL)
-        self.assertEqual(len(blocks), 3)
+        self.assertEqual(len(blocks), 4)
         for text in blocks:
             self.check(text)
 

@@ -42,6 +42,16 @@ FUNCTIONS = {
     "later": ["hashed(term, count)"],
     "receiver": ["heard(bands, samples)", "told_at(one, length, n, known)", "observations(bands, almanac, samples, n)",
                  "problem_at(bands, almanac, samples, n, box, least, greatest, faults)"],
+    "worlds": ["bits_of(beacon, length)", "is_honest(beacon)", "code_of(sky, number)", "is_heard(sky, number, point)",
+               "stream_of_beacon(sky, number, point, offset)", "received(sky, point, offset, noises)",
+               "is_within(sky, point, offset, noises)",
+               "journey(sky, almanac, stops, box, least, greatest, faults)"],
+    "explaining": ["excess(one, far, offset)", "account(problem, point)", "states(bands, almanac, samples, n)"],
+    "scripts": ["parse_script(text)", "print_command(command)"],
+    "console": ["run_script(text)"],
+    "planning": ["is_confused(plan, choice, first, second)", "doubt(plan, choice, state)", "worst_doubt(plan, choice)",
+                 "best(plan)", "bound(plan, number)", "is_bound(plan, number, paper)",
+                 "shows_best(plan, choice, paper)"],
 }
 CLASSES = {
     "errors": ["RangekeepError(place)", "InvalidCode(place)", "InvalidBits(place)", "InvalidFrame(place)",
@@ -58,6 +68,8 @@ CLASSES = {
     "later": ["Chain(seed, length)", "KeySender(chain, step, delay)",
               "KeyReceiver(anchor, length, step, delay, error)"],
     "receiver": ["Heard(track, frames, records)"],
+    "worlds": ["Beacon(amplitude, orbit, clock, first, shift, records)", "Sky(bands, radius, mask, beacons)"],
+    "planning": ["Plan(points, box, least, greatest, slack, count)"],
 }
 METHODS = {
     ("samples", "Stream"): ["__init__(self, code, amplitude, first, steps, bits)", "__eq__(self, other)"],
@@ -75,6 +87,9 @@ METHODS = {
     ("later", "KeyReceiver"): ["__init__(self, anchor, length, step, delay, error)", "hear(self, reading, packet)",
                                "latest(self)", "kept(self)"],
     ("receiver", "Heard"): ["__init__(self, track, frames, records)", "__eq__(self, other)"],
+    ("worlds", "Beacon"): ["__init__(self, amplitude, orbit, clock, first, shift, records)", "__eq__(self, other)"],
+    ("worlds", "Sky"): ["__init__(self, bands, radius, mask, beacons)"],
+    ("planning", "Plan"): ["__init__(self, points, box, least, greatest, slack, count)", "__eq__(self, other)"],
 }
 
 

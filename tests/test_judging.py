@@ -2,7 +2,7 @@ import copy
 import random
 import unittest
 
-from helpers import points_of, random_problem, states_of
+from helpers import changed, part_at, points_of, random_problem, states_of
 from rangekeep.errors import TooMany
 from rangekeep.faults import least_faults, verdicts
 from rangekeep.fixing import Problem, places, reach, senders, tree
@@ -49,19 +49,6 @@ def nodes_of(paper, path=()):
     if paper[0] == "cut":
         told += nodes_of(paper[3], path + (3,)) + nodes_of(paper[4], path + (4,))
     return told
-
-
-def node_at(paper, path):
-    for k in path:
-        paper = paper[k]
-    return paper
-
-
-def changed(paper, path, node):
-    """The tree with another node at a path."""
-    if not path:
-        return node
-    return paper[:path[0]] + (changed(paper[path[0]], path[1:], node),) + paper[path[0] + 1:]
 
 
 def chain(sides, last):
@@ -155,7 +142,7 @@ class ShownTest(unittest.TestCase):
         for problem in problems(1614, 150):
             paper = tree(problem)
             path = rng.choice(nodes_of(paper))
-            node = node_at(paper, path)
+            node = part_at(paper, path)
             for other in (OUT, PLACE):
                 if node in (OUT, PLACE) and node != other:
                     self.assertIsNone(shown(problem, changed(paper, path, other)))

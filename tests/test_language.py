@@ -16,7 +16,8 @@ BUILTINS = set("""len range enumerate zip min max sum abs sorted reversed int st
     NotImplementedError StopIteration NotImplemented""".split())
 METHODS = set("""append clear copy count endswith extend find get index insert isalnum isalpha isdigit islower isspace
     isupper items join keys ljust lower lstrip partition pop remove replace reverse rfind rjust rpartition rsplit
-    rstrip setdefault split splitlines startswith strip update upper values zfill bit_length add discard""".split())
+    rstrip setdefault split splitlines startswith strip update upper values zfill bit_length removeprefix add
+    discard""".split())
 WORDS = set("""register mro elements open input law version_info with_traceback add_note compile copyright credits
     delattr dir eval exec exit gc globals help id importlib license locals os quit vars sys typing enum Enum Flag
     Generic Protocol ABC namedtuple dataclass overload""".split())
@@ -126,12 +127,19 @@ class LanguageTest(unittest.TestCase):
             self.assertIsInstance(node, STATEMENTS, where)
 
     def test_expressions(self):
-        barred = (ast.GeneratorExp, ast.Set, ast.SetComp, ast.Div, ast.MatMult, ast.Await, ast.Yield, ast.JoinedStr)
+        barred = (ast.GeneratorExp, ast.Set, ast.SetComp, ast.Div, ast.MatMult, ast.Await, ast.Yield)
         for where, node in self.each((ast.expr, ast.operator)):
             self.assertNotIsInstance(node, barred, where)
             if isinstance(node, ast.Constant):
                 self.assertIsInstance(node.value, (int, str, type(None)), where)
                 self.assertNotIn("%", str(node.value), where)
+
+    def test_format_strings(self):
+        for where, node in self.each(ast.FormattedValue):
+            self.assertEqual((node.conversion, node.format_spec), (-1, None), where)
+            for part in ast.walk(node.value):
+                self.assertNotIsInstance(part, ast.JoinedStr, where)
+                self.assertFalse(isinstance(part, ast.Constant) and isinstance(part.value, str), where)
 
     def test_exponents(self):
         for where, node in self.each(ast.BinOp):
