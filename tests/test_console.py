@@ -41,7 +41,8 @@ def written_set(rows):
 
 ONE = lines("band 1 still", "code (2 3) 10 10", "beacon 0 10 0 0 (3 4 5)")
 # Three senders in two bands that can be heard, and one whose code has no positive margin.
-WORLD = lines("band 1 still", "code (2 3) 10 10", "band 0 moving", "gold (1 3) 7 9 12", "band 1 still", "code (1 4) 10 10",
+WORLD = lines("band 1 still", "code (2 3) 10 10", "band 0 moving", "gold (1 3) 7 9 12", "band 1 still",
+              "code (1 4) 10 10",
               "band 9 still", "code (2 3) 1 1",
               "beacon 0 10 2 0 (30 40 0)", "orbit 0 0 9000 (30 40 0) (0 0 0) (0 0 0)", "send 0 time", "send 0 clock",
               "beacon 1 -12 0 0 (25 30 2)", "clock 1 0 -3 0", "know 1", "tell 1 key (3 77)",
@@ -98,7 +99,8 @@ class AnswersTest(ConsoleTest):
             if one is None:
                 expected.append(f"sender {k}: deaf")
             else:
-                expected.append(f"sender {k}: {len(one.track)} starts {len(one.frames)} frames {len(one.records)} records")
+                starts, frames, records = len(one.track), len(one.frames), len(one.records)
+                expected.append(f"sender {k}: {starts} starts {frames} frames {records} records")
                 for place, record in one.records:
                     expected.append(f"at {place}: " + " ".join(str(item) for item in record))
         self.assertEqual(told, expected)
@@ -149,7 +151,8 @@ class AnswersTest(ConsoleTest):
                 expected = [f"depth {depth} offset {offset}"]
                 expected += [f"sender {k}:" + "".join(f" {item}" for item in row) for k, row in zip(seen, rows)]
                 self.assertEqual(run_script(lines(WORLD, f"why {n} {written_point(point)}")), expected)
-        self.assertEqual(run_script(lines(WORLD, "why 2499 (20 20 1)"))[1:], ["sender 0: 0", "sender 1: 0", "sender 2: 30"])
+        self.assertEqual(run_script(lines(WORLD, "why 2499 (20 20 1)"))[1:],
+                         ["sender 0: 0", "sender 1: 0", "sender 2: 30"])
 
     def test_verdicts_and_least(self):
         for faults in (0, 1, 2):
@@ -189,7 +192,8 @@ class AnswersTest(ConsoleTest):
 
     def test_no_senders_and_no_stops(self):
         self.assertEqual(run_script(lines("hear", "states 0", "verdicts 0", "kept 0 0 0", "moments 1 1 5")), [])
-        self.assertEqual(run_script(lines("fix 0", "least 3", "why 0 (0 0 0)", "stop 3 0", "kept 0 0 0", "moments 0 0 0")),
+        self.assertEqual(run_script(lines("fix 0", "least 3", "why 0 (0 0 0)", "stop 3 0", "kept 0 0 0",
+                                          "moments 0 0 0")),
                          ["places 1", "(0 0 0) 0..0", "faults 0", "depth 0 offset 0", "stop 0", "stop 0: places 1",
                           "(0 0 0) 0..0", "stop 0: right"])
         self.assertEqual(run_script("band 3 still\nhear\nfix 0"), ["places 1", "(0 0 0) 0..0"])
@@ -206,11 +210,13 @@ class BeginTest(ConsoleTest):
     def test_the_receiver_the_planet_and_the_mask(self):
         # At (1, 0, 0), all that stands on the far side of the origin is below the mask.
         for place, starts in [("(1 0 0)", 8), ("(1 5 0)", 8), ("(9 -3 2)", 8), ("(0 5 0)", 0), ("(-5 0 0)", 0)]:
-            told = run_script(lines("band 0 still", "code (2 3) 10 10", f"beacon 0 10 0 0 {place}", "noise 99 0", "hear"))
+            told = run_script(lines("band 0 still", "code (2 3) 10 10", f"beacon 0 10 0 0 {place}", "noise 99 0",
+                                    "hear"))
             self.assertEqual(told, [f"sender 0: {starts} starts 0 frames 0 records"])
 
     def test_the_box_the_offsets_and_the_noise(self):
-        told = run_script(lines("band 5 still", "code (2 3) 99 99", "beacon 0 99 0 0 (7 0 0)", "know 0", "hear", "fix 9",
+        told = run_script(lines("band 5 still", "code (2 3) 99 99", "beacon 0 99 0 0 (7 0 0)", "know 0", "hear",
+                                "fix 9",
                                 "why 9 (0 0 0)", "noise 50 0", "why 9 (0 0 0)"))
         self.assertEqual(told, ["sender 0: 0 starts 0 frames 0 records", "places 1", "(0 0 0) 0..0", "depth 0 offset 0",
                                 "depth 0 offset 0", "sender 0: 1"])
@@ -225,38 +231,49 @@ class CommandsTest(ConsoleTest):
     """Points 23.3 and 23.4."""
 
     def test_integers_that_are_too_great(self):
-        good = ["band 1000000000 still", "planet 1000000000", "mask 1000000000 1000000000", "offsets -1000000000 -999990000",
+        good = ["band 1000000000 still", "planet 1000000000", "mask 1000000000 1000000000",
+                "offsets -1000000000 -999990000",
                 "faults 1000000000", "noise 0 1000000000", "at (1 1 1) -1000000000", "fix 1000000000",
                 "stop -1000000000 0", "kept 1000000000 1000000000 0"]
         bad = ["band 1000000001 still", "planet 1000000001", "mask 1000000001 1", "mask 0 1000000001",
                "offsets -1000000001 -1000000001", "faults 1000000001", "noise 0 1000000001", "at (1 1 1) -1000000001",
-               "at (1 1 1) 1000000001", "fix 1000000001", "stop -1000000001 0", "stop 1000000001 0", "stop 0 1000000001",
+               "at (1 1 1) 1000000001", "fix 1000000001", "stop -1000000001 0", "stop 1000000001 0",
+               "stop 0 1000000001",
                "kept 1000000001 0 0", "moments 0 1000000001 0"]
         self.check("planet 0", good, bad)
-        self.check(ONE, ["clock 0 1000000000 -1000000000 0", "tell 0 key (1000000000 0)", "beacon 0 1 1000000000 -1000000000 (1 1 1)",
+        self.check(ONE, ["clock 0 1000000000 -1000000000 0", "tell 0 key (1000000000 0)",
+                         "beacon 0 1 1000000000 -1000000000 (1 1 1)",
                          "orbit 0 -1000000000 1000000000 (1 2 3) (1000000000 0 -1000000000) (0 1000000000 0)"],
                    ["clock 0 1000000001 0 0", "clock 0 0 -1000000001 0", "tell 0 key (1000000001 0)",
-                    "tell 0 tag (0 0 1000000001)", "beacon 0 1 1000000001 0 (1 1 1)", "beacon 0 1 0 -1000000001 (1 1 1)",
+                    "tell 0 tag (0 0 1000000001)", "beacon 0 1 1000000001 0 (1 1 1)",
+                    "beacon 0 1 0 -1000000001 (1 1 1)",
                     "beacon 0 1000000001 0 0 (1 1 1)", "orbit 0 0 1000000001 (1 2 3) (0 0 0) (0 0 0)",
                     "orbit 0 0 1 (1 2 3) (0 -1000000001 0) (0 0 0)", "orbit 0 0 1 (1 2 3) (0 0 0) (0 0 1000000001)"])
 
     def test_coordinates_that_are_too_great(self):
-        self.check(ONE, ["at (1000000 -1000000 0) 0", "box (-1000000 1000000) (0 0) (0 0)", "beacon 0 1 0 0 (0 0 1000000)",
+        self.check(ONE, ["at (1000000 -1000000 0) 0", "box (-1000000 1000000) (0 0) (0 0)",
+                         "beacon 0 1 0 0 (0 0 1000000)",
                          "orbit 0 0 0 (-1000000 0 0) (1000001 0 0) (0 1000001 0)"],
                    ["at (1000001 0 0) 0", "at (0 -1000001 0) 0", "at (0 0 1000001) 0", "box (0 1000001) (0 0) (0 0)",
-                    "box (0 0) (-1000001 0) (0 0)", "box (0 0) (0 0) (-1000001 -1000001)", "beacon 0 1 0 0 (0 0 1000001)",
-                    "beacon 0 1 0 0 (-1000001 0 0)", "orbit 0 0 0 (0 1000001 0) (0 0 0) (0 0 0)", "why 0 (1000001 0 0)"])
+                    "box (0 0) (-1000001 0) (0 0)", "box (0 0) (0 0) (-1000001 -1000001)",
+                    "beacon 0 1 0 0 (0 0 1000001)",
+                    "beacon 0 1 0 0 (-1000001 0 0)", "orbit 0 0 0 (0 1000001 0) (0 0 0) (0 0 0)",
+                    "why 0 (1000001 0 0)"])
 
     def test_bands_and_codes(self):
         self.check("planet 0", ["band 0 still", "band 0 moving"], ["band -1 still", "band -1 moving", "code (2 3) 1 1",
                                                                    "gold (2 3) 0 1 1"])
-        self.check("band 0 still", ["code (2 3) 1 1", "code (2 3) 3 4", "code (1 4) 1 1", "code (1 7) 5 5", "gold (2 3) 0 1 1",
+        self.check("band 0 still", ["code (2 3) 1 1", "code (2 3) 3 4", "code (1 4) 1 1", "code (1 7) 5 5",
+                                    "gold (2 3) 0 1 1",
                                     "gold (2 3) 8 1 1", "gold (1 6) 64 1 2"],
-                   ["code (2 3) 0 1", "code (2 3) 4 3", "code (2 3) -1 1", "code () 1 1", "code (3) 1 1", "code (3 2) 1 1",
+                   ["code (2 3) 0 1", "code (2 3) 4 3", "code (2 3) -1 1", "code () 1 1", "code (3) 1 1",
+                    "code (3 2) 1 1",
                     "code (2 2) 1 1", "code (2 3 3) 1 1", "code (0 3) 1 1", "code (-1 3) 1 1", "code (1 2) 1 1",
                     "code (2 4) 1 1", "code (1 2 3) 1 1", "code (2 1 3 5) 1 1", "code (1 1 1 3) 1 1",
-                    "gold (2 1 3 5) 0 1 1", "gold (1 1 1 3) 0 1 1", "code (2 3 4 8) 1 1", "code (1 9) 1 1", "code (4 9) 1 1",
-                    "gold (2 3) -1 1 1", "gold (2 3) 9 1 1", "gold (1 4) 0 1 1", "gold (1 6) 65 1 2", "gold (1 2 3) 0 1 1",
+                    "gold (2 1 3 5) 0 1 1", "gold (1 1 1 3) 0 1 1", "code (2 3 4 8) 1 1", "code (1 9) 1 1",
+                    "code (4 9) 1 1",
+                    "gold (2 3) -1 1 1", "gold (2 3) 9 1 1", "gold (1 4) 0 1 1", "gold (1 6) 65 1 2",
+                    "gold (1 2 3) 0 1 1",
                     "gold () 0 1 1", "gold (3) 0 1 1", "gold (3 2) 0 1 1", "gold (2 3) 0 0 1", "gold (2 3) 0 2 1",
                     "gold (2 3 4 8) 0 1 1", "gold (0 3) 0 1 1"])
         self.check(lines("band 0 still", "code (2 3) 1 1", "gold (2 3) 1 1 1"), ["code (1 3) 1 1", "gold (2 3) 2 1 1"],
@@ -266,7 +283,8 @@ class CommandsTest(ConsoleTest):
         self.check(lines("band 0 still", "code (2 3) 1 1", "band 0 still"), ["code (2 3) 1 1", "code (1 4) 1 1"], [])
 
     def test_the_code_goes_to_the_last_band(self):
-        told = run_script(lines("band 0 still", "code (2 3) 1 1", "band 9 still", "code (1 3) 1 1", "noise 30 0", "hear"))
+        told = run_script(lines("band 0 still", "code (2 3) 1 1", "band 9 still", "code (1 3) 1 1", "noise 30 0",
+                                "hear"))
         self.assertEqual(told, ["sender 0: 0 starts 0 frames 0 records", "sender 1: deaf"])
 
     def test_a_band_that_moves(self):
@@ -293,15 +311,18 @@ class CommandsTest(ConsoleTest):
 
     def test_beacons(self):
         self.check("band 0 still\ncode (2 3) 1 9", ["beacon 0 5 0 0 (1 2 3)", "beacon 0 -5 7 -9 (1 2 3)"],
-                   ["beacon 0 0 0 0 (1 2 3)", "beacon 0 5 -1 0 (1 2 3)", "beacon 1 6 0 0 (1 2 3)", "beacon -1 5 0 0 (1 2 3)"])
+                   ["beacon 0 0 0 0 (1 2 3)", "beacon 0 5 -1 0 (1 2 3)", "beacon 1 5 0 0 (1 2 3)",
+                    "beacon -1 5 0 0 (1 2 3)"])
         self.check("planet 0", [], ["beacon 0 5 0 0 (1 2 3)"])
         # A new beacon has no records, and the almanac does not change by it.
-        told = run_script(lines(ONE, "send 0 time", "know 0", "beacon 0 10 0 0 (33 44 5)", "at (3 4 2) 0", "noise 999 0",
+        told = run_script(lines(ONE, "send 0 time", "know 0", "beacon 0 10 0 0 (33 44 5)", "at (3 4 2) 0",
+                                "noise 999 0",
                                 "hear", "box (3 3) (4 4) (2 2)", "why 900 (3 4 2)"))
         self.assertEqual(told, ["sender 0: 8 starts 0 frames 0 records", "depth 0 offset 0", "sender 0: 2"])
 
     def test_orbits_and_clocks(self):
-        self.check(ONE, ["orbit 0 5 5 (1 2 3) (4 5 6) (7 8 9)", "orbit 0 -9 5 (1 2 3) (4 5 6) (7 8 9)", "clock 0 1 2 65536",
+        self.check(ONE, ["orbit 0 5 5 (1 2 3) (4 5 6) (7 8 9)", "orbit 0 -9 5 (1 2 3) (4 5 6) (7 8 9)",
+                         "clock 0 1 2 65536",
                          "clock 0 -1 -2 -65536"],
                    ["orbit 0 5 4 (1 2 3) (4 5 6) (7 8 9)", "clock 0 1 2 65537", "clock 0 1 2 -65537",
                     "orbit 1 5 5 (1 2 3) (4 5 6) (7 8 9)", "clock 1 1 2 3", "orbit -1 5 5 (1 2 3) (4 5 6) (7 8 9)"])
@@ -316,22 +337,27 @@ class CommandsTest(ConsoleTest):
                                           "box (3 3) (4 4) (2 2)", "why 99 (3 4 2)"))[1:], ["sender 0: 0"])
 
     def test_records(self):
-        self.check(ONE, ["send 0 time", "send 0 clock", "tell 0 key (0 0)", "tell 0 tag (1 2 3)", "tell 0 clock (0 -5 99999999)",
+        self.check(ONE, ["send 0 time", "send 0 clock", "tell 0 key (0 0)", "tell 0 tag (1 2 3)",
+                         "tell 0 clock (0 -5 99999999)",
                          "tell 0 orbit (5 4 3 2 1 0 -1 -2 -3 -4 -5)"],
-                   ["send 0 orbit", "send 1 time", "send -1 time", "tell 1 key (0 0)", "tell 0 key (0)", "tell 0 key ()",
+                   ["send 0 orbit", "send 1 time", "send -1 time", "tell 1 key (0 0)", "tell 0 key (0)",
+                    "tell 0 key ()",
                     "tell 0 key (0 0 0)", "tell 0 key (-1 0)", "tell 0 tag (1 2 -3)", "tell 0 tag (1 2)",
                     "tell 0 clock (-1 0 0)", "tell 0 clock (0 0)", "tell 0 orbit (5 -4 3 2 1 0 -1 -2 -3 -4 -5)",
                     "tell 0 orbit (5 4 3 2 1 0 -1 -2 -3 -4)"])
-        self.check(lines(ONE, "orbit 0 0 9 (1 2 3) (4 5 6) (7 8 9)", "clock 0 -1 0 0"), ["send 0 orbit"], ["send 0 clock"])
+        self.check(lines(ONE, "orbit 0 0 9 (1 2 3) (4 5 6) (7 8 9)", "clock 0 -1 0 0"), ["send 0 orbit"],
+                   ["send 0 clock"])
         self.check(lines(ONE, "orbit 0 -1 9 (1 2 3) (4 5 6) (7 8 9)"), [], ["send 0 orbit"])
 
     def test_the_records_that_are_sent(self):
         told = run_script(lines(ONE, "beacon 0 10 1 0 (3 4 5)", "orbit 0 0 8000 (3 4 5) (0 0 0) (0 0 0)",
                                 "send 0 orbit", "send 0 clock",
-                                "orbit 0 1 9000 (3 4 6) (0 0 0) (0 0 0)", "clock 0 5 0 0", "send 0 orbit", "send 0 clock",
+                                "orbit 0 1 9000 (3 4 6) (0 0 0) (0 0 0)", "clock 0 5 0 0", "send 0 orbit",
+                                "send 0 clock",
                                 "tell 0 clock (9 -8 7)", "tell 0 key (1 2)", "noise 12000 0", "at (3 4 2) 0", "hear"))
         self.assertEqual([line.partition(": ")[2] for line in told[1:]],
-                         ["orbit 0 8000 3 4 5 0 0 0 0 0 0", "clock 0 0 0", "orbit 1 9000 3 4 6 0 0 0 0 0 0", "clock 5 0 0",
+                         ["orbit 0 8000 3 4 5 0 0 0 0 0 0", "clock 0 0 0", "orbit 1 9000 3 4 6 0 0 0 0 0 0",
+                          "clock 5 0 0",
                           "clock 9 -8 7", "key 1 2"])
         self.assertTrue(told[1].startswith("at 0: "))
 
@@ -359,7 +385,8 @@ class CommandsTest(ConsoleTest):
         self.assertEqual(told, ["depth 0 offset 0", "sender 0: 3"])
 
     def test_noise(self):
-        self.check(ONE, ["noise 0 0", "noise 20000 0", "noise 1 1000000000"], ["noise -1 0", "noise 20001 0", "noise 1 -1"])
+        self.check(ONE, ["noise 0 0", "noise 20000 0", "noise 1 1000000000"],
+                   ["noise -1 0", "noise 20001 0", "noise 1 -1"])
         # Where no beacon is heard, and the least amplitude is small, the noise alone gives no starts.
         bands = [Settings([maximal_code((2, 3))], [(10, 10)], 1, False)]
         for size, seed in [(0, 0), (6, 0), (7, 0), (55, 3), (200, 11), (201, 12), (300, 10 ** 9)]:
@@ -371,10 +398,12 @@ class CommandsTest(ConsoleTest):
     def test_the_noise_itself(self):
         """A beacon that is fainter than its band allows is heard only where the noise helps."""
         beacons = [Beacon(amplitude, always(3, 4, 5), Clock(0, 0, 0), 0, 0, [("key", 1, 2)]) for amplitude in (16, 6)]
-        bands = [Settings([maximal_code((2, 3))], [(20, 20)], 5, False), Settings([maximal_code((1, 3))], [(8, 8)], 2, False)]
+        bands = [Settings([maximal_code((2, 3))], [(20, 20)], 5, False),
+                 Settings([maximal_code((1, 3))], [(8, 8)], 2, False)]
         many = set()
         for seed in range(30):
-            rows = received(Sky(bands, 0, (0, 1), beacons), (3, 4, 2), 0, [written_noise(most, 700, seed) for most in (5, 2)])
+            rows = received(Sky(bands, 0, (0, 1), beacons), (3, 4, 2), 0,
+                            [written_noise(most, 700, seed) for most in (5, 2)])
             told = run_script(lines("band 5 still", "code (2 3) 20 20", "band 2 still", "code (1 3) 8 8",
                                     "beacon 0 16 0 0 (3 4 5)", "beacon 1 6 0 0 (3 4 5)", "tell 0 key (1 2)",
                                     "tell 1 key (1 2)", "at (3 4 2) 0", f"noise 700 {seed}", "hear", "states 650"))
@@ -403,7 +432,8 @@ class CommandsTest(ConsoleTest):
 
     def test_places_outside_of_the_box(self):
         self.check(lines(ONE, "box (1 3) (-2 2) (5 5)"), ["why 0 (1 -2 5)", "why 0 (3 2 5)"],
-                   ["why 0 (0 0 5)", "why 0 (4 0 5)", "why 0 (1 -3 5)", "why 0 (1 3 5)", "why 0 (1 0 4)", "why 0 (1 0 6)"])
+                   ["why 0 (0 0 5)", "why 0 (4 0 5)", "why 0 (1 -3 5)", "why 0 (1 3 5)", "why 0 (1 0 4)",
+                    "why 0 (1 0 6)"])
 
     def test_stops(self):
         self.check(lines("stop 0 0", "stop 7 0"), ["stop 8 0"], ["stop 7 0", "stop 6 0", "stop -1 0"])
@@ -438,7 +468,8 @@ class CommandsTest(ConsoleTest):
         base = lines(ONE, "at (3 4 2) 0", "noise 40 0", "hear")
         first = run_script(base)
         self.assertEqual(first, ["sender 0: 5 starts 0 frames 0 records"])
-        for command, told in [("noise 41 0", 5), ("noise 47 0", 6), ("at (3 4 2) 7", 4), ("planet 99", 0), ("mask 9 1", 0),
+        for command, told in [("noise 41 0", 5), ("noise 47 0", 6), ("at (3 4 2) 7", 4), ("planet 99", 0),
+                              ("mask 9 1", 0),
                               ("beacon 0 10 1 0 (3 4 5)", 4), ("clock 0 0 -7 0", 4), ("at (3 4 6) 0", 0),
                               ("orbit 0 0 900 (3 4 12) (0 0 0) (0 0 0)", 4), ("send 0 time", 5), ("know 0", 5)]:
             self.assertEqual(run_script(lines(base, command, "hear", "hear")),

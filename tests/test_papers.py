@@ -405,7 +405,8 @@ class MissesPaperTest(unittest.TestCase):
         journey = steady([(0, at_x(2)), (1, at_x(8))])
         fewer, track = misses_paper(journey)
         self.assertIs(shows_misses(journey, 1, (fewer, track)), True)
-        for paper in STRANGE + [(), [fewer, track], (fewer,), (fewer, track, None), (track, fewer), (list(fewer), track),
+        for paper in STRANGE + [(), [fewer, track], (fewer,), (fewer, track, None), (track, fewer),
+                                (list(fewer), track),
                                 (None, track), (fewer, fewer)]:
             self.assertIs(shows_misses(journey, 1, paper), False)
 

@@ -141,7 +141,8 @@ class DoubtTest(unittest.TestCase):
         for plan in random_plans(2425, 80):
             point, offset = rng.choice(all_states(plan))
             for choice in choices_of(plan):
-                seen = [Observation(i, plan.points[i], written_distance(point, plan.points[i]) + offset, plan.slack, None)
+                seen = [Observation(i, plan.points[i], written_distance(point, plan.points[i]) + offset, plan.slack,
+                                    None)
                         for i in choice]
                 problem = Problem(seen, plan.box, plan.least, plan.greatest, 0)
                 self.assertEqual(doubt(plan, choice, (point, offset)), len(places(problem)))

@@ -26,7 +26,8 @@ NOTHING = (None, None)
 ORBIT_RECORD = ("orbit", 0, 9000, 30, 40, 0, 0, 0, 0, 0, 0, 0)
 CLOCK_RECORD = ("clock", 0, 5, 0)
 # It takes three pages.
-LONG_ORBIT = Orbit(10 ** 9, 2 * 10 ** 9, (900000, -900001, 900002), (10 ** 6, -10 ** 6, 700000), (800000, -800000, 800001))
+LONG_ORBIT = Orbit(10 ** 9, 2 * 10 ** 9, (900000, -900001, 900002), (10 ** 6, -10 ** 6, 700000),
+                   (800000, -800000, 800001))
 LONG_RECORD = ("orbit", 10 ** 9, 2 * 10 ** 9, *LONG_ORBIT.place, *LONG_ORBIT.speed, *LONG_ORBIT.pull)
 
 
@@ -109,7 +110,8 @@ class HeardTest(unittest.TestCase):
 
     def test_the_track(self):
         bits = [1, 0, 0, 1, 1]
-        self.assertEqual(heard([BAND], [samples_of(bits)]), [Heard([(3 + L * k, bit) for k, bit in enumerate(bits)], [], [])])
+        self.assertEqual(heard([BAND], [samples_of(bits)]), [Heard([(3 + L * k, bit) for k, bit in enumerate(bits)],
+                                                                   [], [])])
         # The first one of several tracks.
         first, second = samples_of([1, 1], more=10), samples_of([0, 0, 0])
         self.assertEqual(heard([BAND], [first + second])[0].track, [(3, 1), (10, 1)])

@@ -6,8 +6,10 @@ from rangekeep.scripts import parse_script, print_command
 
 # One command of each form of the document's table.
 COMMANDS = [
-    ("band", 1, "still"), ("band", 0, "moving"), ("code", (2, 3), 10, 11), ("code", (), 1, 2), ("gold", (1, 3), 0, 1, 2),
-    ("planet", 5), ("mask", 1, 2), ("beacon", 0, -10, 2, -3, (1, 2, 3)), ("orbit", 0, 1, 2, (3, 4, 5), (6, 7, 8), (9, 0, 1)),
+    ("band", 1, "still"), ("band", 0, "moving"), ("code", (2, 3), 10, 11), ("code", (), 1, 2),
+    ("gold", (1, 3), 0, 1, 2),
+    ("planet", 5), ("mask", 1, 2), ("beacon", 0, -10, 2, -3, (1, 2, 3)),
+    ("orbit", 0, 1, 2, (3, 4, 5), (6, 7, 8), (9, 0, 1)),
     ("clock", 0, 1, 2, 3), ("send", 0, "time"), ("send", 1, "orbit"), ("send", 2, "clock"), ("tell", 0, "key", (3, 77)),
     ("tell", 0, "tag", ()), ("tell", 0, "orbit", (1,)), ("tell", 0, "clock", (1, 2, 3, 4, 5, 6, 7, 8, 9, 10, 11)),
     ("know", 0), ("forget", 0), ("noise", 20, 3), ("at", (-1, 0, 2), 5), ("box", (0, 1), (-2, 3), (4, 4)),
@@ -60,7 +62,8 @@ class ParseTest(unittest.TestCase):
         self.fails("planet # 5")
 
     def test_signs(self):
-        for sign in [chr(code) for code in range(32)] + ["\x7f", "\x80", "\xe9", "\u2028", "\x85", "\u20ac", "\U0001f600"]:
+        for sign in [chr(code) for code in range(32)] + ["\x7f", "\x80", "\xe9", "\u2028", "\x85", "\u20ac",
+                                                         "\U0001f600"]:
             if sign != "\n":
                 self.fails("hear\n" + sign, 2)
                 self.fails("hear\nhear" + sign + "\nfix", 2)
@@ -73,16 +76,19 @@ class ParseTest(unittest.TestCase):
                 self.fails("planet " + chr(code) + "5")
 
     def test_integers(self):
-        for text, number in [("0", 0), ("1", 1), ("-1", -1), ("10", 10), ("-90", -90), ("123456789012345", 123456789012345),
+        for text, number in [("0", 0), ("1", 1), ("-1", -1), ("10", 10), ("-90", -90),
+                             ("123456789012345", 123456789012345),
                              ("-123456789012345", -123456789012345), ("999999999999999", 10 ** 15 - 1)]:
             self.check("planet " + text, [(1, ("planet", number))])
             self.check("at (" + text + " 0 " + text + ")" + text, [(1, ("at", (number, 0, number), number))])
-        for text in ("00", "01", "-0", "-01", "--1", "-", "+1", "1-", "1-2", "- 1", "1234567890123456", "-1234567890123456",
+        for text in ("00", "01", "-0", "-01", "--1", "-", "+1", "1-", "1-2", "- 1", "1234567890123456",
+                     "-1234567890123456",
                      "1a", "1A", "0a", "00000", "1.0", "1_0", "0x1", "1e3", "\u0661", "5(", ")5", "1,2"):
             self.fails("planet " + text)
 
     def test_words(self):
-        for text in ("Hear", "HEAR", "hearing", "hea", "he ar", "h", "hear5", "5hear", "hear-5", "fix5", "fix-5", "band 5still",
+        for text in ("Hear", "HEAR", "hearing", "hea", "he ar", "h", "hear5", "5hear", "hear-5", "fix5", "fix-5",
+                     "band 5still",
                      "band 5 stil", "band 5 Still", "send 0time", "send 0 timer", "send time 0", "code(2 3)10 10 x"):
             self.fails(text)
         self.check("code(2 3)10 10", [(1, ("code", (2, 3), 10, 10))])
@@ -91,9 +97,12 @@ class ParseTest(unittest.TestCase):
 
     def test_parentheses(self):
         for text in ("at (1 2 3 5", "at 1 2 3) 5", "at ((1 2 3) 5", "at (1 2 3)) 5", "at ((1 2 3)) 5", "at (1 (2) 3) 5",
-                     "at )1 2 3( 5", "at (1 2) 5", "at (1 2 3 4) 5", "at () 5", "at 1 2 3 5", "at (1 a 3) 5", "at (1 2 3) (5)",
-                     "(", ")", "()", "(hear)", "5", "box (0 1) (2 3)", "box (0 1) (2 3) (4 5) (6 7)", "box (0 1) (2 3) (4 5 6)",
-                     "code (2 still) 1 1", "code 2 3 1 1", "why 3 (1 2)", "tell 0 key 3", "tell 0 time (3)", "tell (0) key (3)"):
+                     "at )1 2 3( 5", "at (1 2) 5", "at (1 2 3 4) 5", "at () 5", "at 1 2 3 5", "at (1 a 3) 5",
+                     "at (1 2 3) (5)",
+                     "(", ")", "()", "(hear)", "5", "box (0 1) (2 3)", "box (0 1) (2 3) (4 5) (6 7)",
+                     "box (0 1) (2 3) (4 5 6)",
+                     "code (2 still) 1 1", "code 2 3 1 1", "why 3 (1 2)", "tell 0 key 3", "tell 0 time (3)",
+                     "tell (0) key (3)"):
             self.fails(text)
 
     def test_forms_with_one_value_more_or_fewer(self):

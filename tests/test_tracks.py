@@ -232,7 +232,8 @@ class TriedTest(unittest.TestCase):
                 axes = rng.sample(range(3), 3)
                 point = ordered((rng.randint(-1, 6), rng.randint(-1, 2), 5), axes)
                 found = [offset for offset in range(-4, 5)
-                         if any(all(here is None or written_linked(journey, abs(time - moment[0]), here, (point, offset))
+                         if any(all(here is None or written_linked(journey, abs(time - moment[0]), here,
+                                                                   (point, offset))
                                     for moment, here in zip(journey.moments, track)) for track in tracks)]
                 self.assertEqual(fitting(journey, time, point, -4, 4), spans_of(found))
                 many[len(found) > 0] = many.get(len(found) > 0, 0) + 1

@@ -70,7 +70,8 @@ class EqualityTest(unittest.TestCase):
         values = [make() for make in list(MADE.values()) + OTHERS]
         for k, one in enumerate(values):
             row = tuple(vars(one).values())
-            others = values[:k] + values[k + 1:] + [None, 0, "", row, list(row), vars(one), object(), type(one), Anything(one)]
+            others = values[:k] + values[k + 1:] + [None, 0, "", row, list(row), vars(one), object(), type(one),
+                                                    Anything(one)]
             for other in others:
                 self.assertIs(one == other, False)
                 self.assertIs(other == one, False)

@@ -54,8 +54,8 @@ class BeaconTest(unittest.TestCase):
     def test_equality(self):
         self.assertTrue(beacon(records=[("time", 0)]) == beacon(records=[("time", 0)]))
         self.assertFalse(beacon() != beacon())
-        for other in [beacon(amplitude=9), beacon(orbit=still_at(1, 2, 3)), beacon(clock=Clock(0, 1, 0)), beacon(first=3),
-                      beacon(shift=1), beacon(records=[("time", 0)])]:
+        for other in [beacon(amplitude=9), beacon(orbit=still_at(1, 2, 3)), beacon(clock=Clock(0, 1, 0)),
+                      beacon(first=3), beacon(shift=1), beacon(records=[("time", 0)])]:
             self.assertFalse(beacon() == other)
             self.assertTrue(beacon() != other)
         for other in (None, 3, ORBIT, CLOCK, (10, ORBIT, CLOCK, 2, 0, []), "x", object()):
@@ -246,7 +246,8 @@ class ReceivedTest(unittest.TestCase):
         self.assertEqual(received(sky(None, None), self.POINT, 0, [[], [5]]), [[], [5]])
 
     def test_sums_in_each_band(self):
-        one, two, three = beacon(records=[("time", 0)]), beacon(amplitude=-7, first=3), beacon(orbit=still_at(31, 41, 9))
+        one, two = beacon(records=[("time", 0)]), beacon(amplitude=-7, first=3)
+        three = beacon(orbit=still_at(31, 41, 9))
         bands = [band(CODE, TURNED), band(LONG, greatest=99)]
         noises = [[1, -1] * 100, [0, 1] * 90]
         told = received(sky(one, two, three, bands=bands), self.POINT, 6, noises)
@@ -262,7 +263,7 @@ class ReceivedTest(unittest.TestCase):
                          [samples(streams[:2], noises[0]), samples(streams[2:], noises[1])])
         for missing in range(3):
             some = sky(*[None if k == missing else row for k, row in enumerate((one, two, three))], bands=bands)
-            rows = [[stream for at, stream in enumerate(streams) if at in part and at != missing] for part in ((0, 1), (2,))]
+            rows = [[streams[at] for at in part if at != missing] for part in ((0, 1), (2,))]
             self.assertEqual(received(some, near, 6, noises), [samples(row, noise) for row, noise in zip(rows, noises)])
 
     def test_errors_beacon_by_beacon(self):
