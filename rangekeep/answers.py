@@ -1,18 +1,15 @@
 """The commands of a console that answer."""
 
 from rangekeep.boxes import is_inside
-from rangekeep.desk import require
-from rangekeep.errors import InvalidOrbit, InvalidScript, TooMany
+from rangekeep.errors import TooMany
 from rangekeep.explaining import account, states_of
 from rangekeep.faults import least_faults, verdicts
 from rangekeep.fixing import Problem, senders
-from rangekeep.receiver import heard, observations_of
+from rangekeep.receiver import observations_of
 from rangekeep.tracks import Journey, kept, moment_verdicts, solutions
-from rangekeep.worlds import Sky, received
 
 MOST_STOPS = 20
 MOST_MISSES = 5
-ORIGIN = (0, 0, 0)
 
 
 def answer(desk, word, values):
@@ -21,28 +18,10 @@ def answer(desk, word, values):
     return action(desk, *values)
 
 
-def _rows(desk):
-    """Return what is heard of all senders."""
-    if desk.rows is None:
-        require(desk, desk.point != ORIGIN)
-        sky = Sky(desk.bands, desk.radius, desk.mask, desk.beacons)
-        noises = [_noise(desk, settings.noise) for settings in desk.bands]
-        try:
-            desk.rows = heard(desk.bands, received(sky, desk.point, desk.offset, noises))
-        except InvalidOrbit:
-            raise InvalidScript(desk.line)
-    return desk.rows
-
-
-def _noise(desk, most):
-    """Return the noise in a band, whose absolute values are not greater than the most."""
-    return [(desk.seed * k + k * k) % (2 * most + 1) - most for k in range(desk.size)]
-
-
 def _problem(desk, n):
     """Return the problem at a sample."""
-    require(desk, n >= 0)
-    seen = observations_of(desk.bands, desk.almanac, _rows(desk), n)
+    desk.require(n >= 0)
+    seen = observations_of(desk.bands, desk.almanac, desk.rows(), n)
     return Problem(seen, desk.box, desk.least, desk.greatest, desk.faults)
 
 
@@ -67,7 +46,7 @@ def _row_text(values):
 
 def _hear(desk):
     told = []
-    for number, one in enumerate(_rows(desk)):
+    for number, one in enumerate(desk.rows()):
         if one is None:
             told.append(f"sender {number}: deaf")
         else:
@@ -78,8 +57,8 @@ def _hear(desk):
 
 
 def _states(desk, n):
-    require(desk, n >= 0)
-    words = states_of(desk.bands, desk.almanac, _rows(desk), n)
+    desk.require(n >= 0)
+    words = states_of(desk.bands, desk.almanac, desk.rows(), n)
     return _sender_lines(list(range(len(words))), words)
 
 
@@ -89,7 +68,7 @@ def _fix(desk, n):
 
 
 def _why(desk, n, place):
-    require(desk, is_inside(desk.box, place))
+    desk.require(is_inside(desk.box, place))
     problem = _problem(desk, n)
     depth, offset, rows = account(problem, place)
     return [f"depth {depth} offset {offset}"] + [_row_text([f"sender {number}:"] + row)
@@ -110,15 +89,15 @@ def _least(desk, n):
 
 def _stop(desk, time, n):
     count = len(desk.moments)
-    require(desk, count < MOST_STOPS)
-    require(desk, all([before < time for before, _ in desk.moments]))
-    desk.moments.append((time, _problem(desk, n)))
+    desk.require(count < MOST_STOPS)
+    desk.require(all([before < time for before, _ in desk.moments]))
+    desk.stop(time, _problem(desk, n))
     return [f"stop {count}"]
 
 
 def _journey(desk, speed, drift, misses):
     """Return the journey of all stops."""
-    require(desk, speed >= 0 and drift >= 0 and 0 <= misses <= MOST_MISSES)
+    desk.require(speed >= 0 and drift >= 0 and 0 <= misses <= MOST_MISSES)
     return Journey(desk.moments, speed, drift, misses)
 
 

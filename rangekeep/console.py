@@ -1,7 +1,7 @@
 """The console: runs the commands of a script."""
 
 from rangekeep.answers import ANSWERS, answer
-from rangekeep.desk import Desk, change, require
+from rangekeep.desk import Desk
 from rangekeep.scripts import parse_script
 
 # The greatest absolute value of an integer in a command.
@@ -14,12 +14,12 @@ def run_script(text):
     told = []
     for line, command in parse_script(text):
         word, *values = command
-        desk.line = line
-        require(desk, all([abs(number) <= MOST for number in _integers(values)]))
+        desk.go_to(line)
+        desk.require(all([abs(number) <= MOST for number in _integers(values)]))
         if word in ANSWERS:
             told.extend(answer(desk, word, values))
         else:
-            change(desk, word, values)
+            desk.change(word, values)
     return told
 
 

@@ -65,26 +65,39 @@ def offsets_at(problem, point):
 
 def places(problem):
     """Return the points that are solutions, ascending."""
-    found = []
-    _grown(problem, needed(problem), problem.box, found)
+    depth = needed(problem)
+    found, ahead = [], [problem.box]
+    while ahead:
+        box = ahead.pop()
+        if reach(problem, box) >= depth:
+            half = middle(box)
+            if half is None:
+                found.append(tuple([low for low, _ in box]))
+            else:
+                axis, at = half
+                ahead.extend(cut(box, axis, at))
+        if len(found) > MOST_PLACES:
+            raise TooMany(MOST_PLACES)
     return sorted(found)
 
 
 def tree(problem):
     """Return the tree of the problem, which shows its places."""
-    return _grown(problem, needed(problem), problem.box, [])
+    grown, _ = _grown(problem, needed(problem), problem.box, 0)
+    return grown
 
 
-def _grown(problem, depth, box, found):
-    """Return the tree for a box, and add its places to those that were found."""
+def _grown(problem, depth, box, many):
+    """Return the tree for a box, and the number of the places in it and of as many before it."""
     if reach(problem, box) < depth:
-        return ("out",)
+        return ("out",), many
     half = middle(box)
     if half is None:
-        found.append(tuple([low for low, _ in box]))
-        if len(found) > MOST_PLACES:
+        if many == MOST_PLACES:
             raise TooMany(MOST_PLACES)
-        return ("place",)
+        return ("place",), many + 1
     axis, at = half
-    first, second = cut(box, axis, at)
-    return ("cut", axis, at, _grown(problem, depth, first, found), _grown(problem, depth, second, found))
+    low, high = cut(box, axis, at)
+    first, many = _grown(problem, depth, low, many)
+    second, many = _grown(problem, depth, high, many)
+    return ("cut", axis, at, first, second), many
