@@ -4,7 +4,7 @@ import unittest
 
 from helpers import random_point
 from rangekeep.clocks import Clock
-from rangekeep.codes import maximal_code
+from rangekeep.codes import family, maximal_code
 from rangekeep.errors import InvalidOrbit
 from rangekeep.faults import verdicts
 from rangekeep.fixing import Problem, is_solution
@@ -12,7 +12,7 @@ from rangekeep.framing import FLAG, frames_in, stream_of
 from rangekeep.margin import Settings, margin
 from rangekeep.orbits import Orbit, is_above, is_seen, position
 from rangekeep.ranges import sent_at, start_of, steps_of
-from rangekeep.receiver import problem_at
+from rangekeep.receiver import heard, problem_at
 from rangekeep.records import Collector, contents_of, read_page
 from rangekeep.samples import Stream, samples
 from rangekeep.worlds import Beacon, Sky, bits_of, code_of, is_heard, is_honest, is_within, journey, received, \
@@ -392,6 +392,28 @@ class SolutionTest(unittest.TestCase):
                 told["wrong"] += len(wrong)
                 told["lies"] += len(liars)
         self.assertGreater(min(told.values()), 9)
+
+
+    def test_two_senders_in_one_band(self):
+        codes = family((1, 7))[:2]
+        settings = band(*codes)
+        self.assertGreater(min(margin(settings, 0), margin(settings, 1)), 0)
+        first = beacon(orbit=still_at(60, 70, 80, end=90000), first=1, records=[("time", 0)])
+        second = beacon(-10, still_at(70, 60, 90, end=90000), Clock(0, 40, 0), 2, 0, [("time", 0)])
+        world = sky(first, second, bands=[settings])
+        point, offset = (50, 50, 50), 33
+        noises = [[1, -1, -1] * 4800]
+        rows = received(world, point, offset, noises)
+        self.assertIs(is_within(world, point, offset, noises), True)
+        told = heard(world.bands, rows)
+        self.assertEqual([one.records for one in told], [[(0, ("time", 127))], [(0, ("time", 254))]])
+        self.assertEqual([one.track[0][0] for one in told],
+                         [stream_of_beacon(world, k, point, offset).first for k in range(2)])
+        almanac = [(one.orbit, one.clock) for one in world.beacons]
+        for n in (500, 14200):
+            problem = problem_at(world.bands, almanac, rows, n, ((45, 55), (50, 50), (50, 50)), 0, 99, 0)
+            self.assertEqual([one.modulus for one in problem.observations], [127 if n == 500 else None] * 2)
+            self.assertTrue(is_solution(problem, point, offset))
 
 
 class UnchangedTest(unittest.TestCase):
