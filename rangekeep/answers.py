@@ -104,8 +104,8 @@ def _journey(desk, speed, drift, misses):
 def _kept(desk, speed, drift, misses):
     told = []
     for number, states in enumerate(kept(_journey(desk, speed, drift, misses))):
-        head, *others = ["open"] if states is None else _set_lines(states)
-        told.extend([f"stop {number}: {head}"] + others)
+        rows = ["open"] if states is None else _set_lines(states)
+        told.extend([f"stop {number}: {rows[0]}"] + rows[1:])
     return told
 
 
